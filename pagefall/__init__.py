@@ -1,0 +1,1 @@
+"""Pagefall: a page at all widths, and what a change sets anew."""
