@@ -36,20 +36,23 @@ def some_node(dice, names, words, many):
     return (dice.pick(names), some_classes(dice, words), tuple(children))
 
 
-def some_simple(dice, names, words):
+PLACES = [None, None, None, (0, 1), (0, 2), (2, 0), (2, 1), (3, 2)]
+FEW_PLACES = [None, None, None, None, (2, 0)]
+
+
+def some_simple(dice, names, words, places):
     has, lacks = [], []
     for word in words:
         fall = dice.throw(4)
         if fall < 2:
             (has if fall == 0 else lacks).append(word)
-    place = dice.pick([None, None, None, (0, 1), (0, 2), (2, 0), (2, 1), (3, 2)])
-    return (dice.pick(names + [None]), has, lacks, place)
+    return (dice.pick(names + [None]), has, lacks, dice.pick(places))
 
 
-def some_selector(dice, names, words, most):
-    steps = [(None, some_simple(dice, names, words))]
+def some_selector(dice, names, words, most, places=PLACES):
+    steps = [(None, some_simple(dice, names, words, places))]
     for _ in range(dice.throw(most)):
-        steps.append((dice.pick(["child", "below", "next", "behind"]), some_simple(dice, names, words)))
+        steps.append((dice.pick(["child", "below", "next", "behind"]), some_simple(dice, names, words, places)))
     return steps
 
 

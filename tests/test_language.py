@@ -12,7 +12,7 @@ BUILTINS = set("""len range enumerate zip min max sum abs sorted reversed int st
 divmod ValueError""".split())
 METHODS = set("""append clear copy count endswith extend find get index insert isalnum isalpha isdigit islower isspace isupper items
 join keys ljust lower lstrip partition pop remove replace reverse rfind rjust rpartition rsplit rstrip setdefault split splitlines
-startswith strip update upper values zfill bit_length isascii""".split())
+startswith strip update upper values zfill bit_length isascii add""".split())
 BANNED = """type typing enum Enum Generic Protocol namedtuple dataclass overload property eval exec globals locals vars dir id hash
 object next iter map filter format open input register mro elements law super compile exit help license quit
 getattr setattr hasattr delattr""".split()
@@ -88,9 +88,10 @@ class LanguageTest(unittest.TestCase):
         own = {argument.arg for node in ast.walk(function) if isinstance(node, ast.arguments) for argument in node.args}
         stored = {node.id for node in ast.walk(function) if isinstance(node, ast.Name) and isinstance(node.ctx, ast.Store)}
         self.assertEqual((own | stored) & (bound | BUILTINS), set(), (file, function.name))
+        known = own | stored | bound | BUILTINS | self.around(file, function)
         for node in ast.walk(function):
             if isinstance(node, ast.Name) and isinstance(node.ctx, ast.Load):
-                self.assertIn(node.id, own | stored | bound | BUILTINS | self.around(file, function), (file, function.name))
+                self.assertIn(node.id, known, (file, function.name))
 
     def around(self, file, function):
         """The names that a nested function may read from the one around it."""
