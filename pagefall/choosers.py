@@ -81,25 +81,41 @@ class Chooser:
         own = (self.last | outer >> 1) & ~self.bits_out_of_place(rests)
         return (own, parent, above, elders, rests)
 
+    def behind_bits(self, held, step, bits):
+        """The held behind a letter with this step whose bits, but for places, are these (None: behind none)."""
+        own, parent, above, elders, rests = self.ahead(held, step)
+        return (own & bits, parent, above, elders, rests)
+
     def behind_letter(self, held, letter):
         """The held behind one letter more (None: behind none)."""
         step, name, classes = letter
-        own, parent, above, elders, rests = self.ahead(held, step)
-        return (own & self.bits_of(name, classes), parent, above, elders, rests)
+        return self.behind_bits(held, step, self.bits_of(name, classes))
+
+    def bits_by_letter(self, letters):
+        """The bits of each of the letters, worked out once for those that are alike."""
+        known = {}
+        bits = []
+        for _, name, classes in letters:
+            kind = (name, tuple(classes))
+            if kind not in known:
+                known[kind] = self.bits_of(name, classes)
+            bits.append(known[kind])
+        return bits
 
     def helds_along(self, spine):
         """The helds behind the letters of a spine, one after the other."""
         helds = []
         held = None
-        for letter in spine:
-            held = self.behind_letter(held, letter)
+        for letter, bits in zip(spine, self.bits_by_letter(spine)):
+            held = self.behind_bits(held, letter[0], bits)
             helds.append(held)
         return helds
 
     def helds_in(self, spots):
         """The helds behind all spots of a tree."""
         helds = []
-        for spot in spots:
+        all_bits = self.bits_by_letter([spot.letter() for spot in spots])
+        for spot, bits in zip(spots, all_bits):
             source = None if spot.source is None else helds[spot.source]
-            helds.append(self.behind_letter(source, spot.letter()))
+            helds.append(self.behind_bits(source, spot.step, bits))
         return helds

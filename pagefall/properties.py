@@ -20,29 +20,24 @@ ALIGNS = ("left", "mid", "right")
 
 
 def is_show(value):
-    return isinstance(value, str) and value in SHOWS
+    return value in SHOWS
 
 
 def is_side(value):
-    return isinstance(value, str) and value in SIDES
+    return value in SIDES
 
 
 def is_wrap(value):
-    return isinstance(value, str) and value in WRAPS
+    return value in WRAPS
 
 
 def is_align(value):
-    return isinstance(value, str) and value in ALIGNS
-
-
-def is_named(value, word):
-    """Whether a value is just this string: what is compared may be any object."""
-    return isinstance(value, str) and value == word
+    return value in ALIGNS
 
 
 def is_marked(value, word):
     """Whether a value is a pair of this string and something."""
-    return is_list(value) and len(value) == 2 and is_named(value[0], word)
+    return is_list(value) and len(value) == 2 and value[0] == word
 
 
 def is_length(value):
@@ -50,15 +45,15 @@ def is_length(value):
 
 
 def is_room_length(value):
-    return is_named(value, "auto") or is_length(value)
+    return value == "auto" or is_length(value)
 
 
 def is_height(value):
-    return is_named(value, "auto") or is_whole(value)
+    return value == "auto" or is_whole(value)
 
 
 def is_most(value):
-    return is_named(value, "none") or is_whole(value)
+    return value == "none" or is_whole(value)
 
 
 def is_positive(value):
@@ -70,7 +65,7 @@ def is_size(value):
 
 
 def is_spot(value):
-    if is_named(value, "none"):
+    if value == "none":
         return True
     return is_list(value) and len(value) == 2 and is_length(value[0]) and is_integer(value[1])
 
@@ -80,7 +75,7 @@ def is_ink(value):
 
 
 def is_fill(value):
-    return is_named(value, "none") or is_ink(value)
+    return value == "none" or is_ink(value)
 
 
 LET = {
@@ -110,7 +105,7 @@ def table_lets(word, value):
 
 def is_use(value):
     """Whether a value that is let is one of both uses."""
-    return is_list(value) and is_named(value[0], "use")
+    return is_list(value) and value[0] == "use"
 
 
 def is_use_for(word, value):
@@ -124,7 +119,7 @@ def is_let(word, value):
     """Whether any object is let for a property or an own name."""
     if table_lets(word, value) or is_use_for(word, value):
         return True
-    return not is_own_name(word) and (is_named(value, "as-parent") or is_named(value, "start"))
+    return not is_own_name(word) and (value == "as-parent" or value == "start")
 
 
 def told_value(value):

@@ -141,18 +141,17 @@ class Walk:
 
     def __init__(self, question, is_wanted):
         self.question = question
-        self.is_wanted = is_wanted
         self.states = []
         self.links = []
         self.known = {}
         self.hit = None
-        self.meet(None, question.first_ways())
+        self.meet(None, question.first_ways(), is_wanted)
         at = 0
         while self.hit is None and at < len(self.states):
-            self.meet(at, question.ways_behind(self.states[at]))
+            self.meet(at, question.ways_behind(self.states[at]), is_wanted)
             at += 1
 
-    def meet(self, source, ways):
+    def meet(self, source, ways, is_wanted):
         """Keep the states that are new, with the index of the one they are behind and the letter."""
         for letter, state in ways:
             if state in self.known:
@@ -160,7 +159,7 @@ class Walk:
             self.known[state] = True
             self.states.append(state)
             self.links.append((source, letter))
-            if self.is_wanted(self.question.matched_by(state)):
+            if is_wanted(self.question.matched_by(state)):
                 self.hit = len(self.states) - 1
                 return
 

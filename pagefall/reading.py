@@ -6,28 +6,27 @@ from pagefall.trees import Tree
 
 
 def word_at(text, start):
-    """The word that stands between start and the first sign that is no letter, "" if there is none."""
+    """The letters from a place on, no more of them than a word has."""
     end = start
-    # One letter more than words have is enough to tell that this is none.
-    while end < len(text) and end <= start + LONGEST_WORD and is_word(text[end]):
+    while end < len(text) and end < start + LONGEST_WORD and is_word(text[end]):
         end += 1
-    return text[start:end] if is_word(text[start:end]) else ""
+    return text[start:end]
 
 
 def begin_at(text, start):
     """The name, the classes as they stand there and the end of the begin at a place, or None."""
     name = word_at(text, start + 1)
+    if name == "":
+        return None
     end = start + 1 + len(name)
     classes = []
-    while name != "" and text[end:end + 1] == " ":
+    while text[end:end + 1] == " ":
         klass = word_at(text, end + 1)
         if klass == "":
             return None
         classes.append(klass)
         end += 1 + len(klass)
-    if name == "" or text[end:end + 1] != ">":
-        return None
-    return (name, classes, end + 1)
+    return (name, classes, end + 1) if text[end:end + 1] == ">" else None
 
 
 def end_at(text, start):
@@ -134,7 +133,7 @@ def write_tree(tree):
     """The text of what is in the root, if this is a page without classes, else of the root itself."""
     root = tree.root_node()
     bare = root[0] == "page" and root[1] == ()
-    waiting = list(root[2])[::-1] if bare else [root]
+    waiting = list(root[2][::-1]) if bare else [root]
     pieces = []
     while waiting:
         node = waiting.pop()
@@ -143,5 +142,5 @@ def write_tree(tree):
         else:
             pieces.append(begin_mark(node))
             waiting.append("</" + node[0] + ">")
-            waiting.extend(list(node[2])[::-1])
+            waiting.extend(node[2][::-1])
     return "".join(pieces)

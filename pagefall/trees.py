@@ -141,9 +141,7 @@ class Tree:
     """A tree of elements and texts; it never changes."""
 
     def __init__(self, root):
-        unsound = first_unsound(root)
-        if unsound is None and not is_list(root):
-            unsound = ()
+        unsound = first_unsound(root) if is_list(root) else ()
         if unsound is not None:
             raise BadNode(unsound)
         self._nodes = paths_to_nodes(told_node(root, same_children))

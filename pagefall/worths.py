@@ -80,7 +80,7 @@ def taken_value(word, values, owns):
     if value is None or not is_use(value):
         return value
     worth = owns.get(value[1])
-    if worth is not None and table_lets(word, worth):
+    if table_lets(word, worth):
         return worth
     return value[2] if len(value) == 3 else None
 
@@ -93,7 +93,7 @@ def property_worth(word, values, owns, above):
         return first
     if value == "as-parent" or value is None:
         return first if above is None else above
-    if word == "size" and is_marked(value, "times"):
+    if is_marked(value, "times"):
         return max(1, value[1] * (first if above is None else above) // 100)
     return value
 

@@ -111,6 +111,15 @@ class AllTreesTest(unittest.TestCase, Asserts):
         matched = [is_spine_naively_matched(spine, selector) for selector in has + lacks]
         return all(matched[:len(has)]) and not any(matched[len(has):])
 
+    def test_lists_and_tuples(self):
+        spine = least_spine([D], [C])
+        self.assertEqual(least_spine((D,), [C]), spine)
+        self.assertEqual(least_spine([D], (C,)), spine)
+        mixed = [[(None, ("b", ("m",), ["k"], None))], [(None, (None, ["k"], ("n",), None))]]
+        self.assertEqual([least_spine([selector], []) for selector in mixed], [[("root", "b", ("m",))], [("root", "a", ("k",))]])
+        for nest in ((("a",), {"a": ["b"]}), [["a"], {"a": ("b",)}]):
+            self.assertEqual(least_spine([C], [], nest), [("root", "a", ()), ("first", "b", ())])
+
     def test_apart_and_within(self):
         dice = Dice(22)
         for _ in range(60):

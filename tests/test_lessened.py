@@ -56,6 +56,10 @@ class LessenedTest(unittest.TestCase, Asserts):
                 without_part(FULL, part)
             self.assertIs(caught.exception.part, part)
         self.assert_raises(NoPart, (0, "step", None), without_part, FULL[:1], (0, "step", None))
+        placed = [(None, (None, [], [], (1, 0)))]
+        self.assertEqual(without_part(placed, (0, "place", (1, 0))), [(None, (None, [], [], None))])
+        for place in ((True, 0), (1, False), (1, 0, 0), (1,), "10"):
+            self.assert_raises(NoPart, (0, "place", place), without_part, placed, (0, "place", place))
 
     def test_examples(self):
         self.assertEqual(idle_parts(D, NEST), [(0, "name", "b"), (1, "name", "a"), (1, "step", "below")])
@@ -107,6 +111,8 @@ class LessenedTest(unittest.TestCase, Asserts):
         for nest in (1, (["a"], {"a": "b"})):
             self.assert_keeps(BadNest, nest, idle_parts, C, nest)
             self.assert_keeps(BadNest, nest, lessened_selector, C, nest)
+            self.assert_keeps(BadNest, nest, idle_parts, [(None, (None, [], [], None))], nest)
+            self.assert_keeps(BadNest, nest, lessened_selector, [(None, (None, [], [], None))], nest)
 
     def test_told_is_new_and_names(self):
         selector = [[None, ["b", ["m", "k"], [], [2, 0]]]]

@@ -80,6 +80,14 @@ class PapersTest(unittest.TestCase, Asserts):
         self.assertIs(is_closed([D], [C], None, paper), False)
         self.assertIs(is_closed([C], [], None, paper), False)
 
+    def test_lists_and_tuples(self):
+        nest = (("a",), {"a": ("b",)})
+        paper = closed_list([C], [D], NEST)
+        self.assertEqual(closed_list((C,), [D], nest), paper)
+        self.assertEqual(closed_list([C], (D,), NEST), paper)
+        self.assertIs(is_closed((C,), [D], nest, paper), True)
+        self.assertIs(is_closed([C], (D,), nest, paper), True)
+
     def test_more_than_needed(self):
         one = [(None, ("b", [], [], None))]
         nest = (["a"], {})
@@ -122,6 +130,7 @@ class PapersTest(unittest.TestCase, Asserts):
             self.assert_raises(BadList, 0, is_closed, [C], thing, 1, None)
         self.assert_raises(BadList, 1, closed_list, [C, []], None, 1)
         self.assert_raises(BadList, 2, is_closed, [C], [C, D, None], 1, None)
+        self.assert_raises(BadList, 1, is_closed, [C, []], None, 1, None)
         for nest in (1, (["a"],)):
             self.assert_keeps(BadNest, nest, closed_list, [C], [D], nest)
             self.assert_keeps(BadNest, nest, is_closed, [C], [D], nest, None)

@@ -1,4 +1,5 @@
 import unittest
+from itertools import product
 
 from naive import Asserts, Dice, deep_list, deep_node, element_at, given_lists, nodes_of, some_node, some_selector
 from pagefall.errors import BadSelector, NoElement
@@ -19,6 +20,7 @@ WRONG = [
     [(None, ("a", [], [], (0, -1)))], [(None, ("a", [], [], ()))], [(None, ("a", [], [], [None, 1]))],
     [(None, ANY), ([], ANY)], [(None, ANY), (["child"], ANY)], [([], ANY)], Tree(("a", [], [])), [(None, Tree(("a", [], [])))],
     [(None, ("a", [["k"]], [], None))], [(None, ("a", [Tree(("a", [], []))], [], None))], deep_list(3000),
+    [1], [None], ["ab"], [{None: 1, (None, (), (), None): 2}], [(None, {None: 1, (): 2, ("k",): 3, (0, 1): 4})],
     [(None, ("a", deep_list(3000), [], None))], [(None, (deep_list(3000), [], [], None))],
 ]
 
@@ -113,6 +115,9 @@ class SelectorTest(unittest.TestCase, Asserts):
                 for _ in range(6):
                     thing = [path] + [dice.pick(sorted(nodes)) for _ in selector[1:]]
                     self.assertIs(is_given(tree, path, selector, thing), thing in lists)
+                if len(selector) < 3:
+                    for thing in product(tree.all_elements(), repeat=len(selector)):
+                        self.assertIs(is_given(tree, path, selector, thing), list(thing) in lists)
             self.assertEqual(matched_paths(tree, selector), matched)
 
     def test_is_given_of_any_object(self):

@@ -29,7 +29,7 @@ LET = {
     "ink": (["a", "z"], ["none", "ab", ""]),
 }
 NEVER = [None, True, False, 1.5, "", {}, [], (), ("use",), ("use", "p"), ("use", "--"), ("use", "--P"), ("use", "--p", True), ("use", "--p", "start"),
-         ("use", "--p", ("use", "--q")), ("use", "--p", 1, 1), deep_list(500), Tree(("a", [], [])), ("part", True), ("times", True), (0, True)]
+         ("use", "--p", ("use", "--q")), ("use", "--p", 1, 1), ("times", "--p"), ("part", "--p"), (1, "--p"), deep_list(500), Tree(("a", [], [])), ("part", True), ("times", True), (0, True)]
 
 
 def rule(declarations, level=0, selector=ANY, condition=None):

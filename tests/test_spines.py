@@ -13,7 +13,7 @@ EXAMPLE_SPINE = [("root", "r", ("k",)), ("first", "a", ("k",)), ("next", "a", ()
 WRONG = [
     None, 1, "root", {}, [], (), [ROOT, ROOT], [ROOT, ("next", "a", ())], [("first", "a", ())], [ROOT, ("first", "a", ()), ROOT],
     [("root", "r")], [("root", "R", ())], [("root", "r", None)], [("root", "r", "k")], [("root", "r", ("m", "k"))],
-    [("root", "r", ("k", "k"))], [("root", "r", ("K",))], [("root", None, ())], [(None, "r", ())], [ROOT, ("last", "a", ())],
+    [("root", "r", ("k", "k"))], [("root", "r", ("K",))], [("root", None, ())], [(None, "r", ())], [ROOT, ("last", "a", ())], [ROOT, ("first", "a", ()), ("last", "a", ())],
     [ROOT, None], ROOT, [["root"], "r", ()], [(["root"], "r", ())], [({}, "r", ())], [ROOT, ("first", "a", [1])], deep_list(3000),
     [("root", "r", deep_list(3000))], Tree(("a", [], [])), [Tree(("a", [], []))], [("root", "r", (True,))],
 ]

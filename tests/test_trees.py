@@ -21,7 +21,7 @@ class NodesTest(unittest.TestCase):
             self.assertIs(is_node(node), True, node)
         wrong = [
             None, 1, True, [], (), {}, ("a", []), ("a", [], [], []), ("", [], []), ("abcdefghi", [], []),
-            ("A", [], []), ("a1", [], []), (None, [], []), ("a", None, []), ("a", "k", []), ("a", ["k", "k"], []),
+            ("A", [], []), ("a1", [], []), ("\u00e9", [], []), ("a", ["\u00e9"], []), (None, [], []), ("a", None, []), ("a", "k", []), ("a", ["k", "k"], []),
             ("a", ["K"], []), ("a", [["k"]], []), ("a", {}, []), ("a", [], None), ("a", [], "text"), ("a", [], {}),
             ("a", [], [""]), ("a", [], [("b", [], [None])]), Tree(("a", [], [])), ("a", [], [Tree(("a", [], []))]),
         ]
@@ -154,6 +154,7 @@ class EditsTest(unittest.TestCase, Asserts):
     def test_classes(self):
         self.assertEqual(self.tree.with_class((1,), "b").node_at((1,)), ("a", ("b", "k"), ("y",)))
         self.assertEqual(self.tree.with_class((), "b").node_at(())[1], ("b",))
+        self.assertEqual(self.tree.with_class([1], "b"), self.tree.with_class((1,), "b"))
         self.assertEqual(self.tree.with_class((1,), "k"), self.tree)
         self.assertEqual(self.tree.without_class([1], "k").node_at((1,)), ("a", (), ("y",)))
         self.assertEqual(self.tree.without_class((), "k"), self.tree)
@@ -194,6 +195,7 @@ class BehindTest(unittest.TestCase, Asserts):
                  ((4,), (), None), ((), (), None), ((2, 0), (1, 0), (2, 0))]
         for path, at, behind in cases:
             self.assertEqual(behind_take(path, at), behind)
+            self.assertEqual(behind_take(list(path), list(at)), behind)
 
     def test_bad_paths(self):
         for work in (behind_put, behind_take):

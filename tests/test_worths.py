@@ -133,6 +133,8 @@ class WorthsTest(unittest.TestCase, Asserts):
         self.assertEqual(self.worth(sheet_of(a={"--p": "w", "width": ("use", "--p")}), "a", "width"), "auto")
         self.assertEqual(self.worth(sheet_of(a={"width": ("use", "--p", ["part", 4])}), "a", "width"), ("part", 4))
         self.assertEqual(self.worth(sheet_of(a={"--p": 0}, b={"layer": ("use", "--p", 3)}), "ab", "layer"), 0)
+        self.assertEqual(self.worth(sheet_of(a={"--p": 0}, b={"layer": ("use", "--p", 3)}), "xyab", "layer"), 0)
+        self.assertEqual(self.worth(sheet_of(a={"--p": 0}, x={"--p": 5}, b={"layer": ("use", "--p", 3)}), "xayb", "layer"), 0)
         self.assertEqual(self.worth(sheet_of(a={"ink": "g"}, b={"ink": ("use", "--p")}), "ab", "ink"), "g")
         self.assertEqual(self.worth(sheet_of(a={"fill": "g"}, b={"fill": ("use", "--p")}), "ab", "fill"), "none")
         self.assertEqual(self.worth(sheet_of(a={"ink": "g", "--p": "none"}, b={"ink": ("use", "--p", "r")}), "ab", "ink"), "r")
