@@ -1,18 +1,13 @@
 """Questions to selectors about all trees, answered by the least spine that shows it."""
 
 from pagefall.nests import check_nest
-from pagefall.questions import Question, Walk, check_selectors, is_just_these
+from pagefall.questions import Question, Walk, question_of, walk_to
 from pagefall.selectors import check_selector
 
 
 def least_spine(has, lacks, nest=None):
     """The least spine of an element that all of has match and none of lacks, or None."""
-    check_selectors(has)
-    check_selectors(lacks)
-    check_nest(nest)
-    many = len(has)
-    question = Question(list(has) + list(lacks), nest)
-    return Walk(question, lambda matched: is_just_these(matched, many)).spine_found()
+    return walk_to(question_of(has, lacks, nest), len(has)).spine_found()
 
 
 def is_never(selector, nest=None):

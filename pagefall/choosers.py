@@ -28,6 +28,7 @@ class Chooser:
     def __init__(self, selector):
         self.simples = [simple for _, simple in selector]
         self.last = 1 << (len(selector) - 1)
+        self.whole = 2 * self.last - 1
         self.child = self.steps_by(selector, "child")
         self.below = self.steps_by(selector, "below")
         self.beside = self.steps_by(selector, "next")
@@ -61,11 +62,12 @@ class Chooser:
             after.append((held + 1) % many if many > 0 else min(held + 1, rest + 1))
         return tuple(after)
 
-    def bits_out_of_place(self, rests):
-        bits = 0
+    def bits_in_place(self, rests):
+        """The bits of the steps that ask no place, or the one with these rests."""
+        bits = self.whole
         for (bit, place), held in zip(self.places, rests):
             if held != place[1]:
-                bits |= bit
+                bits -= bit
         return bits
 
     def ahead(self, held, step):
@@ -78,7 +80,7 @@ class Chooser:
             parent, above, elders, elder = held[1], held[2], held[3] | held[0], held[0]
         rests = self.next_rests(held[4]) if step == "next" else self.first_rests()
         outer = (parent or 0) & self.child | above & self.below | elder & self.beside | elders & self.behind
-        own = (self.last | outer >> 1) & ~self.bits_out_of_place(rests)
+        own = (self.last | outer >> 1) & self.bits_in_place(rests)
         return (own, parent, above, elders, rests)
 
     def behind_bits(self, held, step, bits):

@@ -1,8 +1,7 @@
 """Papers: lists of joint stands that show that there is no spine."""
 
 from pagefall.kinds import is_list, is_word
-from pagefall.nests import check_nest
-from pagefall.questions import Question, Walk, check_selectors, is_just_these
+from pagefall.questions import is_just_these, question_of, walk_to
 from pagefall.stands import held_from, told_stand
 
 
@@ -15,12 +14,8 @@ def told_joint(question, state):
 
 def closed_list(has, lacks, nest=None):
     """The list of all joint stands of spines, or None if there is a spine of what is asked."""
-    check_selectors(has)
-    check_selectors(lacks)
-    check_nest(nest)
-    many = len(has)
-    question = Question(list(has) + list(lacks), nest)
-    walk = Walk(question, lambda matched: is_just_these(matched, many))
+    question = question_of(has, lacks, nest)
+    walk = walk_to(question, len(has))
     if walk.hit is not None:
         return None
     return [told_joint(question, state) for state in walk.states]
@@ -45,10 +40,7 @@ def state_from(question, thing):
 
 def is_closed(has, lacks, nest, thing):
     """Whether a thing is a list of joint stands that no letter leaves, none of which is what is asked."""
-    check_selectors(has)
-    check_selectors(lacks)
-    check_nest(nest)
-    question = Question(list(has) + list(lacks), nest)
+    question = question_of(has, lacks, nest)
     states = [state_from(question, joint) for joint in thing] if is_list(thing) else [None]
     if any([state is None for state in states]):
         return False

@@ -40,8 +40,16 @@ def is_marked(value, word):
     return is_list(value) and len(value) == 2 and value[0] == word
 
 
+def is_number(value):
+    return is_whole(value)
+
+
+def is_layer(value):
+    return is_integer(value)
+
+
 def is_length(value):
-    return is_whole(value) or is_marked(value, "part") and is_whole(value[1])
+    return is_number(value) or is_marked(value, "part") and is_number(value[1])
 
 
 def is_room_length(value):
@@ -49,11 +57,11 @@ def is_room_length(value):
 
 
 def is_height(value):
-    return value == "auto" or is_whole(value)
+    return value == "auto" or is_number(value)
 
 
 def is_most(value):
-    return value == "none" or is_whole(value)
+    return value == "none" or is_number(value)
 
 
 def is_positive(value):
@@ -80,10 +88,10 @@ def is_fill(value):
 
 LET = {
     "show": is_show, "side": is_side, "width": is_room_length, "base": is_room_length, "height": is_height,
-    "least": is_whole, "most": is_most, "mleft": is_room_length, "mright": is_room_length, "pleft": is_length,
-    "pright": is_length, "mtop": is_whole, "mbottom": is_whole, "ptop": is_whole, "pbottom": is_whole, "grow": is_whole,
-    "gap": is_whole, "shrink": is_whole, "span": is_positive, "wrap": is_wrap, "size": is_size, "align": is_align,
-    "layer": is_integer, "at": is_spot, "fill": is_fill, "ink": is_ink,
+    "least": is_number, "most": is_most, "mleft": is_room_length, "mright": is_room_length, "pleft": is_length,
+    "pright": is_length, "mtop": is_number, "mbottom": is_number, "ptop": is_number, "pbottom": is_number,
+    "grow": is_number, "gap": is_number, "shrink": is_number, "span": is_positive, "wrap": is_wrap, "size": is_size,
+    "align": is_align, "layer": is_layer, "at": is_spot, "fill": is_fill, "ink": is_ink,
 }
 
 

@@ -3,6 +3,7 @@
 from pagefall.choosers import Chooser
 from pagefall.errors import BadList
 from pagefall.kinds import is_list
+from pagefall.nests import check_nest
 from pagefall.selectors import is_selector
 
 LETTERS = "abcdefghijklmnopqrstuvwxyz"
@@ -179,3 +180,16 @@ class Walk:
 def is_just_these(matched, many):
     """Whether of the selectors just the first so many match."""
     return all(matched[:many]) and not any(matched[many:])
+
+
+def question_of(has, lacks, nest):
+    """The question of selectors that are to match and others that are not, if all of it is right."""
+    check_selectors(has)
+    check_selectors(lacks)
+    check_nest(nest)
+    return Question(list(has) + list(lacks), nest)
+
+
+def walk_to(question, many):
+    """The walk up to the first state in which just the first so many selectors match."""
+    return Walk(question, lambda matched: is_just_these(matched, many))

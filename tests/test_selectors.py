@@ -1,7 +1,7 @@
 import unittest
 from itertools import product
 
-from naive import Asserts, Dice, deep_list, deep_node, element_at, given_lists, nodes_of, some_node, some_selector
+from naive import Asserts, Dice, deep_list, deep_node, given_lists, nodes_of, related_paths, some_node, some_selector
 from pagefall.errors import BadSelector, NoElement
 from pagefall.selectors import given_paths, is_given, is_matched, is_selector, matched_paths, weight_of
 from pagefall.trees import Tree
@@ -119,6 +119,16 @@ class SelectorTest(unittest.TestCase, Asserts):
                     for thing in product(tree.all_elements(), repeat=len(selector)):
                         self.assertIs(is_given(tree, path, selector, thing), list(thing) in lists)
             self.assertEqual(matched_paths(tree, selector), matched)
+
+    def test_each_relation_of_each_two(self):
+        root = ("a", [], [("a", [], ["t", ("a", [], []), ("a", [], [])]), "t", ("a", [], [("a", [], [])]), ("a", [], [])])
+        tree, nodes = Tree(root), dict(nodes_of(root))
+        for relation in ("child", "below", "next", "behind"):
+            selector = [(None, ANY), (relation, ANY)]
+            for path in tree.all_elements():
+                related = related_paths(nodes, path, relation)
+                for other in tree.all_elements():
+                    self.assertIs(is_given(tree, path, selector, [path, other]), other in related, (relation, path, other))
 
     def test_is_given_of_any_object(self):
         tree = Tree(EXAMPLE_TREE)
