@@ -6,7 +6,7 @@ from pagefall.errors import BadList, BadNest
 from pagefall.papers import closed_list, is_closed
 from pagefall.nests import is_of_nest
 from pagefall.spines import tree_along
-from pagefall.stands import stand_of
+from pagefall.stands import stand_behind, stand_of
 from pagefall.trees import Tree
 
 C = [(None, ("b", [], [], None)), ("child", ("a", [], [], None))]
@@ -33,9 +33,7 @@ def joint_of(spine, selectors, nest):
 
 class PapersTest(unittest.TestCase, Asserts):
     def test_least_paper(self):
-        stand = lambda own, parent, rest: ((own,) if own is not None else (), parent, (0,) if parent else (), (), (rest,))
         self.assertEqual(closed_list([P, Q], [])[0], (((), None, (), (), (1,)), ((0,), None, (), (), (1,))))
-        self.assertEqual(stand(0, (0,), 1), ((0,), (0,), (0,), (), (1,)))
         self.assertIsNone(closed_list([P], [Q]))
         self.assertIsNone(closed_list([], []))
         self.assertIsNone(closed_list([], [], NEST))
@@ -69,6 +67,40 @@ class PapersTest(unittest.TestCase, Asserts):
             for k in [dice.throw(len(paper)) for _ in range(4)]:
                 self.assertIs(is_closed(has, lacks, nest, paper[:k] + paper[k + 1:]), False)
         self.assertGreater(papers, 10)
+
+    def test_letter_by_letter(self):
+        """Each letter of the question leads from each joint stand to one of the list, stand by stand."""
+        dice = Dice(32)
+        looked_at = 0
+        for _ in range(60):
+            nest = dice.pick([None, (["a"], {"a": ["a", "b"], "b": ["c"]})])
+            has = [some_selector(dice, ["a", "b"], ["k"], 2, FEW_PLACES) for _ in range(2)]
+            paper = closed_list(has, [], nest)
+            if paper is None or len(paper) > 150:
+                continue
+            looked_at += 1
+            kinds = [(name, classes) for name in ("a", "b", "c") for classes in ((), ("k",))]
+            for joint in [None] + paper:
+                for step in ("root", "first", "next"):
+                    for name, classes in kinds:
+                        behind = self.behind(has, nest, joint, (step, name, classes))
+                        self.assertTrue(behind is None or behind in paper)
+            self.assertFalse(any(0 in joint[0][0] and 0 in joint[1][0] for joint in paper))
+        self.assertGreater(looked_at, 8)
+
+    def behind(self, selectors, nest, joint, letter):
+        """The joint stand behind one letter more, None if it cannot follow."""
+        step, name, _ = letter
+        if (joint is None) != (step == "root") or step == "next" and joint[0][1] is None:
+            return None
+        stands = joint[:2] if joint is not None else (None, None)
+        behind = tuple(stand_behind(selector, stand, letter) for selector, stand in zip(selectors, stands))
+        if nest is None:
+            return behind
+        parent = None if step == "root" else joint[2] if step == "first" else joint[3]
+        if name not in (nest[0] if step == "root" else nest[1].get(parent, [])):
+            return None
+        return behind + (name, parent)
 
     def test_other_orders_and_words(self):
         paper = closed_list([C], [D])
