@@ -130,6 +130,11 @@ def is_let(word, value):
     return not is_own_name(word) and (value == "as-parent" or value == "start")
 
 
+def is_worth(word, value):
+    """Whether any object is a value that the table lets for a property and that can be its worth."""
+    return table_lets(word, value) and not is_marked(value, "times")
+
+
 def told_value(value):
     """A value that is let, tuples throughout."""
     return tuple([told_value(part) for part in value]) if is_list(value) else value

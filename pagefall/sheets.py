@@ -97,6 +97,10 @@ class Sheet:
         rules = self.all_rules()
         return Sheet(rules[:number] + rules[number + 1:])
 
+    def own_rules(self):
+        """The rules made ready to be asked, by their numbers."""
+        return list(self._rules)
+
     def rules_on(self, width):
         """The rules that are on at a width, the weakest first."""
         return sorted([rule for rule in self._rules if rule.is_on(width)], key=lambda rule: rule.strength)

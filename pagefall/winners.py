@@ -40,13 +40,23 @@ def winning_values(rules, many):
     return values
 
 
-def values_along(sheet, tree, path, width):
-    """For the elements from the root down to the one at a path the dicts of the values that win."""
+def winning_along(tree, path, rules):
+    """For the elements from the root down to the one at a path the dicts of what wins, by rules and their dicts."""
     spots = tree.spine_spots(path)
     spine = [spot.letter() for spot in spots]
-    rules = [(rule.chooser.helds_along(spine), rule.declarations) for rule in sheet.rules_on(width)]
-    values = winning_values(rules, len(spots))
+    values = winning_values([(rule.chooser.helds_along(spine), told) for rule, told in rules], len(spots))
     return [winning for spot, winning in zip(spots, values) if spot.path == path[:len(spot.path)]]
+
+
+def values_along(sheet, tree, path, width):
+    """For the elements from the root down to the one at a path the dicts of the values that win."""
+    return winning_along(tree, path, [(rule, rule.declarations) for rule in sheet.rules_on(width)])
+
+
+def numbers_along(sheet, tree, path, width):
+    """For the elements from the root down to the one at a path the dicts of the numbers of the rules that win."""
+    rules = sheet.rules_on(width)
+    return winning_along(tree, path, [(rule, {word: rule.number for word in rule.declarations}) for rule in rules])
 
 
 def values_in(sheet, tree, width):

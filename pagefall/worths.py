@@ -127,6 +127,23 @@ def worth_of(sheet, tree, path, word, width):
     return above
 
 
+def worths_behind(winning, owns, above):
+    """The dict of the worths of all properties by what wins, the own names here and the parent's dict, or None."""
+    worths = {}
+    for word in PROPERTIES:
+        worths[word] = property_worth(word, winning, owns, None if above is None else above[word])
+    return worths
+
+
+def worths_along(sheet, tree, path, width):
+    """For the elements from the root down to the one at a path the dicts of the worths of all properties."""
+    rows = []
+    values = values_along(sheet, tree, path, width)
+    for winning, owns in zip(values, owns_along(values)):
+        rows.append(worths_behind(winning, owns, rows[-1] if rows else None))
+    return rows
+
+
 def all_worths(sheet, tree, width):
     """The dict from the paths of all elements to the dicts from all properties to worths."""
     check_width(width)
@@ -136,8 +153,5 @@ def all_worths(sheet, tree, width):
         path = spot.path
         above = None if path == () else worths[path[:-1]]
         owns[path] = own_worths(own_sayings(winning), {} if path == () else owns[path[:-1]])
-        worths[path] = {}
-        for word in PROPERTIES:
-            from_above = None if above is None else above[word]
-            worths[path][word] = property_worth(word, winning, owns[path], from_above)
+        worths[path] = worths_behind(winning, owns[path], above)
     return worths
