@@ -19,6 +19,26 @@ FUNCTIONS = {
     "winners": ["asked_rules(sheet, tree, path, word, width)", "winner_of(sheet, tree, path, word, width)"],
     "worths": ["own_worth(sheet, tree, path, word, width)", "ringed_names(sheet, tree, path, width)",
                "worth_of(sheet, tree, path, word, width)", "all_worths(sheet, tree, width)"],
+    "whys": ["why_worth(sheet, tree, path, word, width)", "worth_by(sheet, reasons)"],
+    "standings": ["can_have(sheet, wishes)", "worths_coming(sheet, word)", "worths_given(sheet, wishes, word)",
+                  "surely_has(sheet, wishes, others)", "can_hold(sheet, upper, lower)"],
+    "deads": ["wins_ever(sheet, number, word)", "dead_ones(sheet)", "alive_sheet(sheet)"],
+    "reaches": ["reach_of(sheet, klass)", "reach_shown(sheet, klass, where)"],
+    "boxes": ["way_of(dressed, path)", "shown_as(dressed, path)", "box_at(dressed, path)", "box_tree(dressed)", "all_boxes(dressed)"],
+    "homes": ["home_of(dressed, path)", "firm_above(dressed, path)", "turned_by(dressed, path)"],
+    "shapes": ["shape_of(dressed)", "is_shape(thing)", "least_tree(shape)"],
+    "forms": ["is_form(thing)", "form_worth(form, width)", "form_sum(one, other)", "form_times(form, share)",
+              "greatest_form(forms)", "least_form(forms)"],
+    "across": ["across_of(told, room)", "is_across(told, room, thing)", "in_rooms(told)", "fits_from(told)", "parted_from(told, other)"],
+    "stacks": ["stack_of(rows)", "least_stack(margins)", "greatest_stack(margins)", "is_least_order(margins)", "greatest_order(margins)"],
+    "words": ["is_run(thing)", "words_of(run)"],
+    "lines": ["lines_in(run, room)", "line_sizes(run, room)", "height_in(run, room)", "is_breaking(run, room, thing)",
+              "is_chain(run, room, thing)", "chain_above(run, room, many)", "least_room(run, many)", "all_rooms(run)",
+              "taller_rooms(run)", "rooms_part(one, other)", "same_end(one, other)", "meeting_in(one, other, room)",
+              "all_meetings(one, other)"],
+    "floats": ["laid_out(run, room, align)", "laid_height(run, room)", "why_there(run, room, number)", "all_shapes(run)",
+               "lowest_rooms(run)", "run_need(run)", "run_wish(run)"],
+    "rows": ["rows_part(one, other)"],
     "stands": ["stand_of(spine, selector)", "stand_behind(selector, held, letter)"],
 }
 CLASSES = {
@@ -27,6 +47,10 @@ CLASSES = {
                         "without_class(path, klass)", "joined_texts()", "__eq__(other)", "__len__()"],
     ("sheets", "Sheet"): ["__init__(rules)", "all_rules()", "with_rule(rule, number)", "without_rule(number)",
                           "__eq__(other)", "__len__()"],
+    ("dresses", "Dressed"): ["__init__(tree, rows)", "own_tree()", "worth_at(path, word)", "__eq__(other)"],
+    ("rows", "Row"): ["__init__(items, gap=0)", "all_items()", "own_gap()", "sizes_at(room)", "left_at(room)", "level_at(room)",
+                      "is_level(room, thing)", "all_pieces()", "room_for(index, size)", "both_ends()", "needless_bounds()",
+                      "lines_at(room)", "wrapped_sizes(room)", "all_breaks()", "room_for_lines(many)", "__eq__(other)"],
 }
 
 
