@@ -7,7 +7,7 @@ from pagefall.refusals import NoBox
 def way_of(dressed, path):
     """How an element stands."""
     path = dressed.own_tree().element_path(path)
-    return Flow(dressed).ways[path]
+    return Flow(dressed).all_ways[path]
 
 
 def shown_as(dressed, path):

@@ -3,6 +3,8 @@
 from pagefall.kinds import is_list
 
 BLOCKS = ("block", "row", "table")
+# How the children stand whose boxes are in one of these kinds.
+BOXED_WAYS = {"row": "item", "table": "strip", "strip": "cell"}
 
 
 def ways_in(dressed):
@@ -43,24 +45,24 @@ def shown_by(way, show, is_broken):
 
 
 class Flow:
-    """How all nodes of a dressed tree stand: ways and shown, dicts from the paths of elements."""
+    """How all nodes of a dressed tree stand: all_ways and shown, dicts from the paths of elements."""
 
     def __init__(self, dressed):
         self.tree = dressed.own_tree()
-        self.ways = ways_in(dressed)
+        self.all_ways = ways_in(dressed)
         self.shown = {}
         broken = {}
-        for path in reversed(list(self.ways)):
-            self.shown[path] = shown_by(self.ways[path], dressed.worth_at(path, "show"), path in broken)
+        for path in reversed(list(self.all_ways)):
+            self.shown[path] = shown_by(self.all_ways[path], dressed.worth_at(path, "show"), path in broken)
             if self.is_block_in_flow(path):
                 broken[path[:-1]] = True
 
     def is_element(self, path):
-        return path in self.ways
+        return path in self.all_ways
 
     def is_block_in_flow(self, path):
         """Whether a node is an element in the flow that breaks what is around it."""
-        return self.ways.get(path) == "flow" and self.shown[path] in BLOCKS
+        return self.all_ways.get(path) == "flow" and self.shown[path] in BLOCKS
 
     def is_line(self, path):
         return self.shown.get(path) == "line"
@@ -89,7 +91,7 @@ class Flow:
             path = waiting.pop()
             if not self.is_element(path):
                 run.append(("text", path))
-            elif self.ways[path] == "float":
+            elif self.all_ways[path] == "float":
                 run.append(("float", path))
             elif self.is_line(path):
                 waiting.extend(self.children_of(path)[::-1])
@@ -103,7 +105,7 @@ class Flow:
         """Whether a child has a box that stands in that of its parent, which is of a kind."""
         if kind == "blocks":
             return self.is_block_in_flow(path)
-        return self.ways.get(path) == {"row": "item", "table": "strip", "strip": "cell"}[kind]
+        return self.all_ways.get(path) == BOXED_WAYS[kind]
 
     def parts_in(self, path):
         """What stands in the box of an element that is not of lines, in order.

@@ -26,7 +26,7 @@ class Ground:
         self.numbers = {}
         self.helds = []
         self.matched = []
-        self.moves = []
+        self.kept_moves = []
         self.first_moves = self.moves_by(2, [chooser.ahead(None, "root") for chooser in self.choosers])
 
     def bits_of(self, name, classes):
@@ -73,18 +73,18 @@ class Ground:
             self.numbers[key] = len(self.helds)
             self.helds.append(key)
             self.matched.append(tuple([held[0] & 1 == 1 for held in helds]))
-            self.moves.append(None)
+            self.kept_moves.append(None)
         return self.numbers[key]
 
     def moves_behind(self, number):
         """The moves from stands: by first child elements, and, where it is no root, by next siblings."""
-        if self.moves[number] is None:
+        if self.kept_moves[number] is None:
             is_root, helds = self.helds[number]
             moves = self.moves_by(0, self.helds_ahead(helds, "first"))
             if not is_root:
                 moves.extend(self.moves_by(1, self.helds_ahead(helds, "next")))
-            self.moves[number] = moves
-        return self.moves[number]
+            self.kept_moves[number] = moves
+        return self.kept_moves[number]
 
     def helds_ahead(self, helds, step):
         return [chooser.ahead(held, step) for chooser, held in zip(self.choosers, helds)]
@@ -118,7 +118,7 @@ class Standings:
         self.worth_numbers = {}
         self.numbers = {}
         self.states = []
-        self.moves = []
+        self.kept_moves = []
         self.first_moves = self.moves_by(ground.first_moves, None)
 
     def winning(self, matched):
@@ -158,17 +158,17 @@ class Standings:
         if state not in self.numbers:
             self.numbers[state] = len(self.states)
             self.states.append(state)
-            self.moves.append(None)
+            self.kept_moves.append(None)
         return self.numbers[state]
 
     def moves_behind(self, number):
         """The moves from a standing."""
-        if self.moves[number] is None:
+        if self.kept_moves[number] is None:
             stands, worth, parent = self.states[number]
             moves = self.ground.moves_behind(stands)
             many = len(self.ground.kinds)
-            self.moves[number] = self.moves_by(moves[:many], worth) + self.moves_by(moves[many:], parent)
-        return self.moves[number]
+            self.kept_moves[number] = self.moves_by(moves[:many], worth) + self.moves_by(moves[many:], parent)
+        return self.kept_moves[number]
 
     def worths_at(self, number):
         """The dict of the worths of the last element behind a spine."""
@@ -182,22 +182,22 @@ class Search:
     """
 
     def __init__(self, first_moves, moves_behind, answers_at, many):
-        self.answers_at = answers_at
         self.many = many
         self.known = {}
         self.links = {}
-        groups = self.met(None, first_moves)
+        groups = self.met(None, first_moves, answers_at)
         while groups and not self.is_done():
             longer = []
             for link, things in groups:
-                longer.extend(self.met(link, [move for thing in things for move in moves_behind(thing)]))
+                moves = [move for thing in things for move in moves_behind(thing)]
+                longer.extend(self.met(link, moves, answers_at))
             groups = longer
 
     def is_done(self):
         return self.many is not None and len(self.links) >= self.many
 
-    def met(self, link, moves):
-        """The groups of the things that are new behind one letter more, each with its link."""
+    def met(self, link, moves, answers_at):
+        """The groups of the things that are new behind one letter more, each with its link; keep their answers."""
         groups = []
         last = None
         for letter, thing in sorted(moves, key=lambda move: move[0]):
@@ -208,7 +208,7 @@ class Search:
                 groups.append(((link, letter), []))
                 last = letter
             groups[-1][1].append(thing)
-            for answer in self.answers_at(thing):
+            for answer in answers_at(thing):
                 self.links.setdefault(answer, groups[-1][0])
         return groups
 

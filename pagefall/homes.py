@@ -36,7 +36,7 @@ def path_below(dressed, path):
 
 def is_firm(dressed, flow, path):
     """Whether an element stays as it is shown, whatever is put into it."""
-    way = flow.ways[path]
+    way = flow.all_ways[path]
     return way != "gone" and (way != "flow" or dressed.worth_at(path, "show") in BLOCKS)
 
 
@@ -53,7 +53,7 @@ def turned_by(dressed, path):
     """The paths of the elements above a node that are shown as line or as block by what stands in its place."""
     path = path_below(dressed, path)
     flow = Flow(dressed)
-    if flow.ways[path[:-1]] == "gone":
+    if flow.all_ways[path[:-1]] == "gone":
         return []
     turned = []
     while not is_firm(dressed, flow, path[:-1]):

@@ -134,7 +134,7 @@ class Account:
         self.reasons = reasons
         self.at = 0
         self.is_right = True
-        self.met = {}
+        self.once = {}
 
     def declared(self, word, number):
         """What a rule declares for a word, None for no rule."""
@@ -155,7 +155,7 @@ class Account:
         value = self.declared(word, number)
         hows = own_hows(path, word, value) if is_own_name(word) else property_hows(path, word, value)
         # At one element a word has one winner, however often it is asked.
-        once = self.met.setdefault((path, word), (how, number))
+        once = self.once.setdefault((path, word), (how, number))
         if (there, what) != (path, word) or how not in hows or once != (how, number):
             self.is_right = False
         return (how, value)
@@ -169,8 +169,7 @@ class Account:
         self.at += 1
 
     def own_told(self, path, word):
-        """The worth of an own name, None for none."""
-        is_used = False
+        """The worth of an own name, None for none: that of the last one that is used or handed down."""
         while True:
             how, value = self.take(path, word)
             if not self.is_right:
@@ -181,12 +180,9 @@ class Account:
             if how == "handed":
                 path = path[:-1]
             elif how == "use":
-                is_used = True
                 word = value[1]
             else:
-                worth = own_end(how, value)
-                self.is_right = self.is_right and (worth is not None or not is_used)
-                return worth
+                return own_end(how, value)
 
     def value_taken(self, path, word, how, value):
         """What a property is told by one reason (behind a use: by all those behind it)."""

@@ -83,6 +83,16 @@ class FloatsTest(unittest.TestCase, Asserts):
         self.assertEqual(laid_out(run, 5, "right"), ([(0, 1, ZERO, 4, 8, 4), (1, 2, (4, 1), 8, 1, 2)], [(ZERO, 0), ((5, 1), 8)]))
         self.assertEqual(why_there(run, 5, 1), (("line",), []))
 
+    def test_floats_below_the_line(self):
+        # The line at 8 reaches down to 10 alone as long as its words are small; the high one comes below both floats.
+        run = [(1, "a"), ("left", 6, 10), ("left", 9, 5), (1, " b" * 9), (3, " c")]
+        lines, floats = laid_out(run, 10, "left")
+        self.assertEqual(lines, [(at, at + 2, (6, 1), at, 3, 2) for at in range(0, 10, 2)] + [(10, 11, ZERO, 15, 3, 6)])
+        self.assertEqual(floats, [(ZERO, 0), (ZERO, 10)])
+        self.assertEqual(why_there(run, 10, 1), (("room", 0, None), [(2, 0, None)]))
+        # A high word on the line at 8 would reach down into the wider one.
+        self.assertEqual(laid_out(run[:3] + [(1, " b" * 8), (2, " c")], 10, "left")[0][-2:], [(8, 9, (6, 1), 8, 1, 2), (9, 10, ZERO, 15, 2, 4)])
+
     def test_thrown_runs_one_by_one(self):
         dice = Dice(55)
         reasons = set()

@@ -54,6 +54,10 @@ class HomesTest(unittest.TestCase, Asserts):
         told = [firm_above(page, path) for path in page.own_tree().all_paths()[1:]]
         self.assertEqual(told, [(), (), (), (), (), (0, 1), (), (0, 2), (), (1,), (1, 0), (1, 0, 0), (), (2,), (2, 0), (), (), ()])
 
+    def test_firm_ones_step_by_step(self):
+        page = dressed(("r", [], [("b", [], [("l", [], [("l", [], ["a"])])])]), b=BLOCK)
+        self.assertEqual([firm_above(page, (0, 0, 0, 0)[:depth]) for depth in (1, 2, 3, 4)], [(), (0,), (0,), (0,)])
+
     def test_turning(self):
         node = ("r", [], [("l", [], [("l", [], ["a"]), ("l", [], ["b", ("b", [], [])])]), ("g", [], [("l", [], ["c"])])])
         page = dressed(node, b=BLOCK, g=GONE)

@@ -140,6 +140,7 @@ class LinesTest(unittest.TestCase, Asserts):
         for thing in ([0], [2], (0, 2), [0, 1, 2], [1, 2]):
             self.assertIs(is_chain(RUN, 59, thing), True, thing)
         self.assertIs(is_chain(RUN, 60, [0, 1]), False)
+        self.assertIs(is_chain(RUN, 5, [0, 0]), False)
         for thing in [None, 5, "ab", {}, [], [3], [-1], [True], [0, True], [1, 0], [0, 0], [0, 1, 1], [0, None], [(0,)], deep_list(2000)]:
             self.assertIs(is_chain(RUN, 59, thing), False, thing)
 

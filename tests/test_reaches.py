@@ -51,6 +51,13 @@ class ReachesTest(unittest.TestCase, Asserts):
         self.assertEqual(reach_shown(below, "k", "inside"), (([ROOT, ("first", "a", ()), ("first", "a", ())], ZERO), 1, "fill"))
         self.assertEqual(reach_shown(Sheet([(0, two, {"fill": "w"}, None)]), "m", "inside")[1], 1)
 
+    def test_who_gets_it_stands_there(self):
+        # The root would change its child, too, but not as the one that gets the class itself.
+        child = steps((None, ["k"], []), ("child", [], []))
+        sheet = Sheet([(0, child, {"gap": 3}, None), (0, steps((None, [], []), ("below", ["k"], [])), {"grow": 4}, None)])
+        spine = [ROOT, ("first", "a", ())]
+        self.assertEqual(self.shown(sheet)[:2], [((spine, ZERO), 1, "gap"), ((spine, ZERO), 0, "grow")])
+
     def test_what_lacks_it(self):
         lacking = Sheet([(0, steps((None, [], ["k"])), {"fill": "w"}, None)])
         self.assertEqual(self.shown(lacking), [(([ROOT], ZERO), 0, "fill"), None, None, None])

@@ -205,6 +205,7 @@ class RowsTest(unittest.TestCase, Asserts):
 
     def test_needless_bounds(self):
         self.assertEqual(Row([((5, 1), 0, 0, 5, 5), ((5, 1), 1, 1, 5, 5), ((5, 1), 0, 0, 0, 4), ((5, 1), 0, 0, 6, None)]).needless_bounds(), [(0, "least"), (0, "most")])
+        self.assertEqual(Row([((5, 1), 0, 0, 1, None), ((5, 1), 0, 0, 0, None)]).needless_bounds(), [(0, "least")])
         dice = Dice(71)
         seen = set()
         for _ in range(200):
