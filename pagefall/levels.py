@@ -34,7 +34,7 @@ class Levels:
     """
 
     def __init__(self, items):
-        self.items = items
+        self.row = items
         self.levels = ascending([ZERO] + [turn for item in items for turn in turns_of(item)])
         self.sizes = [self.sizes_by(level) for level in self.levels]
         self.sums = [sum_of(sizes) for sizes in self.sizes]
@@ -42,7 +42,7 @@ class Levels:
         self.growth = sum(self.rates)
 
     def sizes_by(self, level):
-        return [size_at_level(item, level) for item in self.items]
+        return [size_at_level(item, level) for item in self.row]
 
     def level_for(self, total):
         """A level at which the sizes have a sum, or come as near to it as they can."""

@@ -118,6 +118,25 @@ class LanguageTest(unittest.TestCase):
                 if isinstance(node, ast.Attribute):
                     self.assertIn(node.attr, own | METHODS | {"__init__"}, name)
 
+    def test_names_of_attributes(self):
+        """L26: no value of an object has a name that values of Python's own have, but for those that are let."""
+        let = set("count index title find get join lower upper split strip copy add".split())
+        named = set("""items keys values pop update append clear extend insert remove reverse setdefault sort args encode decode hex
+            fromhex format""".split())
+        for kind in (str, int, bool, list, tuple, dict, set, frozenset, bytes):
+            named |= {name for name in dir(kind) if not name.startswith("_")}
+        stored = 0
+        for name, _, tree in self.each():
+            for node in ast.walk(tree):
+                if isinstance(node, ast.Attribute) and not isinstance(node.ctx, ast.Load):
+                    stored += 1
+                    self.assertNotIn(node.attr, named - let, (name, node.lineno))
+                elif isinstance(node, ast.ClassDef):
+                    for part in node.body:
+                        if isinstance(part, ast.FunctionDef):
+                            self.assertNotIn(part.name, named, (name, part.lineno))
+        self.assertGreater(stored, 100)
+
     def test_words(self):
         for name, text, tree in self.each():
             for node in ast.walk(tree):
