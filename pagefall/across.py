@@ -1,16 +1,18 @@
 """Blocks across: margins, pads and width in a room, and in all rooms."""
 
-from pagefall.forms import form_less, form_times, worth_at, zero_of
+from pagefall.forms import worth_at, zero_of
 from pagefall.kinds import is_list
-from pagefall.pieces import check_room, joined_pieces, parted_at
+from pagefall.pieces import check_room, parted_at
 from pagefall.properties import is_marked, table_lets
-from pagefall.ratios import ONE, ZERO, ascending, is_below, is_fraction, lowest, plus, times, told_fraction
+from pagefall.ratios import ZERO, is_below, is_fraction, told_fraction
 from pagefall.refusals import BadAcross
+from pagefall.spans import NOUGHT, WIDTH, span_form, span_less, span_of, span_share, span_sum, span_worth, still_span
+from pagefall.spans import sum_of_spans
+from pagefall.stretches import ALL_WIDTHS
+from pagefall.watches import cells_in, joined_cells, still_watch
 
 WORDS = ("width", "least", "most", "mleft", "mright", "pleft", "pright")
 HALF = (1, 2)
-NOTHING = ((0, 1), (0, 1))
-WHOLE = ((0, 1), (1, 1))
 
 
 def is_told_across(thing):
@@ -24,62 +26,70 @@ def check_across(thing):
         raise BadAcross(thing)
 
 
-def length_form(length):
-    """The form, in the room, of a length, an auto one counting for 0."""
-    if length == "auto":
-        return NOTHING
-    return (ZERO, lowest(length[1], 100)) if is_marked(length, "part") else ((length, 1), ZERO)
+def length_span(length, room):
+    """The span of a length in a room, None for one that is not told."""
+    if length == "auto" or length == "none":
+        return None
+    return span_share(room, (length[1], 100)) if is_marked(length, "part") else span_of(length)
 
 
-def rest_form(told):
-    """The form of what margins and pads leave of the room."""
-    rest = WHOLE
-    for length in told[3:]:
-        rest = form_less(rest, length_form(length))
-    return rest
+def told_spans(told, room):
+    """The spans, in a room, of what is told across."""
+    return [length_span(length, room) for length in told]
 
 
-def bound_form(number):
-    return ((number, 1), ZERO)
+def span_or_nought(span):
+    return NOUGHT if span is None else span
 
 
-def first_width(told):
-    """The form of the width ahead of being held."""
-    return rest_form(told) if told[0] == "auto" else length_form(told[0])
+def taken_by(spans):
+    """What margins and pads take, auto ones nothing."""
+    return sum_of_spans([span for span in spans[3:] if span is not None])
 
 
-def held_form(form, told, room):
-    """The form of a width that is held, in a room."""
-    _, least, most = told[:3]
-    if most != "none" and is_below((most, 1), worth_at(form, room)):
-        form = bound_form(most)
-    return bound_form(least) if is_below(worth_at(form, room), (least, 1)) else form
+def held_span(width, spans, watch):
+    """A width that is held: lowered to the most, then raised to the least."""
+    _, least, most = spans[:3]
+    if most is not None:
+        width = watch.lesser_of(width, most)
+    return watch.greater_of(width, least)
 
 
-def left_form(told, over, room):
-    """The form of the left margin by that of what the width leaves of the rest, in a room."""
-    _, _, _, mleft, mright, _, _ = told
-    if mleft != "auto" or not is_below(ZERO, worth_at(over, room)):
-        return length_form(mleft)
-    return form_times(over, HALF) if mright == "auto" else over
+def left_margin(spans, over, watch):
+    """The left margin by what the width leaves of the rest."""
+    _, _, _, mleft, mright, _, _ = spans
+    if mleft is not None:
+        return mleft
+    if watch.is_upto(over, NOUGHT):
+        return NOUGHT
+    return span_share(over, HALF) if mright is None else over
 
 
-def forms_around(told, room):
-    """The five forms that tell, in a room, what stands across."""
-    width = held_form(first_width(told), told, room)
-    left = left_form(told, form_less(rest_form(told), width), room)
-    pads = [length_form(length) for length in told[5:]]
-    right = WHOLE
-    for form in (left, pads[0], width, pads[1]):
-        right = form_less(right, form)
-    return (left, pads[0], width, pads[1], right)
+def width_across(spans, room, watch):
+    """The width of a block, its rest where it is auto, held."""
+    width = span_less(room, taken_by(spans)) if spans[0] is None else spans[0]
+    return held_span(width, spans, watch)
+
+
+def spans_around(spans, width, room, watch):
+    """The five spans of left margin, left pad, width, right pad and right margin of a block of a width."""
+    left = left_margin(spans, span_less(room, span_sum(taken_by(spans), width)), watch)
+    _, _, _, _, _, pleft, pright = spans
+    right = span_less(room, sum_of_spans([left, pleft, width, pright]))
+    return (left, pleft, width, pright, right)
+
+
+def around_in(told, room, watch):
+    """The five spans that tell what stands across in a room."""
+    spans = told_spans(told, room)
+    return spans_around(spans, width_across(spans, room, watch), room, watch)
 
 
 def across_of(told, room):
     """The tuple of left margin, left pad, width, right pad and right margin in a room."""
     check_across(told)
     check_room(room)
-    return tuple([worth_at(form, room) for form in forms_around(told, room)])
+    return tuple([span_worth(span, room) for span in around_in(told, still_span(room), still_watch())])
 
 
 def is_across(told, room, thing):
@@ -90,31 +100,25 @@ def is_across(told, room, thing):
     return tuple([told_fraction(part) for part in thing]) == across
 
 
-def turning_rooms(told):
-    """Ascending rooms above 0 between which the forms do not change."""
-    width = first_width(told)
-    bounds = [bound_form(number) for number in told[1:3] if number != "none"]
-    rest = rest_form(told)
-    rooms = [zero_of(form_less(width, bound)) for bound in bounds]
-    rooms.extend([zero_of(form_less(rest, form)) for form in bounds + [width]])
-    return ascending([room for room in rooms if room is not None and is_below(ZERO, room)])
+def still_forms(forms, room):
+    return tuple([(worth_at(form, room), ZERO) for form in forms])
+
+
+def stretches_across(told):
+    """The pairs of a stretch of rooms and the five forms there, each stretch as long as can be."""
+    cells = cells_in(ALL_WIDTHS, lambda watch: tuple([span_form(span) for span in around_in(told, WIDTH, watch)]))
+    return joined_cells(cells, still_forms)
 
 
 def pieces_across(told):
     """The pieces of the forms in all rooms."""
-    pieces = []
-    low = ZERO
-    for high in turning_rooms(told) + [None]:
-        between = plus(low, ONE) if high is None else times(plus(low, high), HALF)
-        pieces.append((low, high, forms_around(told, between)))
-        low = high
-    return joined_pieces(pieces)
+    return [(low, high, forms) for (low, _, high, _), forms in stretches_across(told)]
 
 
 def in_rooms(told):
     """The pairs of a stretch of rooms and the five forms that tell there what stands across."""
     check_across(told)
-    return [((low, low == ZERO, high, high is not None), forms) for low, high, forms in pieces_across(told)]
+    return stretches_across(told)
 
 
 def fits_from(told):

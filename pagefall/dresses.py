@@ -38,6 +38,10 @@ class Dressed:
     def own_tree(self):
         return self._tree
 
+    def row_at(self, path):
+        """The worths of an element, for reading alone."""
+        return self._worths[path]
+
     def worth_at(self, path, word):
         """The worth of a property of the element at a path."""
         path = self._tree.element_path(path)

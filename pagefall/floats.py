@@ -4,8 +4,9 @@ from pagefall.errors import BadNumber
 from pagefall.kinds import is_whole
 from pagefall.layings import Laying
 from pagefall.properties import ALIGNS
-from pagefall.ratios import lowest, minus
 from pagefall.refusals import BadAlign
+from pagefall.spans import WIDTH, span_of, span_worth, still_span
+from pagefall.watches import Watch, still_watch
 from pagefall.words import Met, WordRows, check_run, told_room
 
 
@@ -15,18 +16,14 @@ def met_in(run):
     return Met(run)
 
 
-def line_left(line, width, room, align):
-    """Where a line begins."""
-    left, right = line.ends.left, line.ends.right
-    spare = minus(room, (left + right + width, 1))
-    if align == "left" or spare[0] < 0:
-        return (left, 1)
-    share = spare if align == "right" else lowest(spare[0], 2 * spare[1])
-    return lowest(left * share[1] + share[0], share[1])
+def laying_in(met, room):
+    """The laying in a room that is told."""
+    return Laying(met, wide_floats(met), still_span(room), still_watch())
 
 
-def float_left(put, room):
-    return (put.near, 1) if put.side == "left" else minus(room, (put.far, 1))
+def wide_floats(met):
+    """The floats of a run, widths as spans."""
+    return [(side, span_of(width), height) for side, width, height in met.floats]
 
 
 def laid_out(run, room, align):
@@ -35,26 +32,26 @@ def laid_out(run, room, align):
     room = told_room(room)
     if not isinstance(align, str) or align not in ALIGNS:
         raise BadAlign(align)
-    laying = Laying(met, room)
+    laying = laying_in(met, room)
     lines = []
     for line in laying.lines:
         width = laying.rows.width_of(line.first, line.upto)
-        left = line_left(line, width, room, align)
+        left = span_worth(laying.line_left(line, align), room)
         lines.append((line.first, line.upto, left, line.top, width, line.height))
-    return (lines, [(float_left(put, room), put.top) for put in laying.puts])
+    return (lines, [(span_worth(put.left_in(laying.room), room), put.top) for put in laying.puts])
 
 
 def laid_height(run, room):
     """How far down a run goes."""
     met = met_in(run)
-    return Laying(met, told_room(room)).whole_height()
+    return laying_in(met, told_room(room)).whole_height()
 
 
 def why_there(run, room, number):
     """The pair of why a float did not go beside its line (None: it did), and the tops that were tried in vain."""
     met = met_in(run)
     room = told_room(room)
-    reasons = Laying(met, room).reasons
+    reasons = laying_in(met, room).reasons
     if not is_whole(number) or number >= len(reasons):
         raise BadNumber(number)
     return reasons[number]
@@ -64,13 +61,16 @@ def all_shapes(run):
     """The triples of a room, the shape of the laying from it on, and its height, up to the next one's."""
     met = met_in(run)
     told = []
-    room = 0
-    while room is not None:
-        laying = Laying(met, (room, 1))
+    floats = wide_floats(met)
+    end = (0, 1)
+    while end is not None:
+        # All that is asked is whether an integer is at most the room, so the answers change at integers alone.
+        watch = Watch(end)
+        laying = Laying(met, floats, WIDTH, watch)
         shape = laying.shape()
         if not told or told[-1][1] != shape:
-            told.append((room, shape, laying.whole_height()))
-        room = laying.failed
+            told.append((end[0], shape, laying.whole_height()))
+        end = watch.end
     return told
 
 
@@ -82,7 +82,7 @@ def lowest_rooms(run):
 
 
 def float_widths(met):
-    return [thing[1] for _, thing in met.things if thing is not None]
+    return [width for _, width, _ in met.floats]
 
 
 def run_need(run):

@@ -1,6 +1,9 @@
-"""Runs laid in a room: words on lines, and floats beside them."""
+"""Runs laid in a room: words on lines, and floats beside them. Widths and the room are spans."""
 
+from pagefall.spans import NOUGHT, span_less, span_of, span_share, span_sum
 from pagefall.words import WordRows
+
+HALF = (1, 2)
 
 
 class Put:
@@ -9,9 +12,8 @@ class Put:
     def __init__(self, number, side, width, near, top, foot):
         self.number = number
         self.side = side
-        self.width = width
         self.near = near
-        self.far = near + width
+        self.far = span_sum(near, width)
         self.top = top
         self.foot = foot
 
@@ -19,24 +21,32 @@ class Put:
         """Whether it stands at some heights from low up to high, this one not taken in."""
         return self.top < self.foot and self.top < high and low < self.foot
 
+    def left_in(self, room):
+        """Where it begins, from the left end of the room on."""
+        return self.near if self.side == "left" else span_less(room, self.far)
+
 
 class Ends:
     """How far the floats that stand at some heights go in from both sides, and the first ones that go so far."""
 
-    def __init__(self, puts):
+    def __init__(self, puts, watch):
         self.is_free = len(puts) == 0
-        self.left = 0
-        self.right = 0
+        self.left = NOUGHT
+        self.right = NOUGHT
         self.left_number = None
         self.right_number = None
         for put in puts:
-            if put.side == "left" and (self.left_number is None or put.far > self.left):
+            if put.side == "left" and (self.left_number is None or watch.is_under(self.left, put.far)):
                 self.left, self.left_number = put.far, put.number
-            elif put.side == "right" and (self.right_number is None or put.far > self.right):
+            elif put.side == "right" and (self.right_number is None or watch.is_under(self.right, put.far)):
                 self.right, self.right_number = put.far, put.number
 
     def reach(self, side):
         return self.left if side == "left" else self.right
+
+    def with_width(self, width):
+        """How wide a room has to be for something between the ends."""
+        return span_sum(span_sum(self.left, self.right), width)
 
 
 class Line:
@@ -51,16 +61,15 @@ class Line:
 
 
 class Laying:
-    """A run laid in a room: lines, those that have words, and puts, the floats, each with its reason.
+    """A run laid in a room: lines, those that have words, and puts, its floats, each with its reason.
 
-    All that is asked is whether an integer is at most the room; failed is the least one that is not, or None: so in all
-    rooms up to there, this one not taken in, all is laid alike.
+    floats are the triples (side, width, height) of what is met; all that is asked of widths is asked of a watch.
     """
 
-    def __init__(self, met, room):
+    def __init__(self, met, floats, room, watch):
         self.rows = WordRows(met.words)
         self.room = room
-        self.failed = None
+        self.watch = watch
         self.lines = []
         self.puts = []
         self.waiting = []
@@ -68,33 +77,33 @@ class Laying:
         self.top = 0
         self.first = 0
         self.upto = 0
-        for word, thing in met.things:
-            if thing is None:
+        for word, number in met.things:
+            if number is None:
                 self.take_word(word)
             else:
-                self.take_float(thing)
+                self.take_float(floats[number])
         self.end_line()
 
-    def is_wide_enough(self, number):
-        """Whether the room is at least a number."""
-        if number * self.room[1] <= self.room[0]:
-            return True
-        self.failed = number if self.failed is None else min(self.failed, number)
-        return False
+    def ends_of(self, puts):
+        return Ends(puts, self.watch)
 
     def ends_over(self, low, high):
-        return Ends([put for put in self.puts if put.stands_at(low, high)])
+        return self.ends_of([put for put in self.puts if put.stands_at(low, high)])
 
     def ends_at(self, top):
         """The ends at a single height: all tops and feet are integers."""
         return self.ends_over(top, top + 1)
 
     def fits_between(self, width, ends):
-        return self.is_wide_enough(width + ends.left + ends.right)
+        return self.watch.is_upto(ends.with_width(width), self.room)
 
     def fits_at(self, width, ends):
         """Whether something has room there, or nothing else stands there."""
         return ends.is_free or self.fits_between(width, ends)
+
+    def row_width(self, first, upto):
+        """How wide the row of the words from a first one up to another is, as a span."""
+        return span_of(self.rows.width_of(first, upto))
 
     def next_foot(self, top):
         """The least foot of a float that is below a top."""
@@ -104,12 +113,13 @@ class Laying:
         if self.first < self.upto:
             height = self.rows.height_of(self.first, number + 1)
             ends = self.ends_over(self.top, self.top + height)
-            if self.fits_between(self.rows.width_of(self.first, number + 1), ends):
+            if self.fits_between(self.row_width(self.first, number + 1), ends):
                 self.upto = number + 1
                 return
             self.end_line()
         height = self.rows.words[number].height
-        while not self.fits_at(self.rows.words[number].width, self.ends_over(self.top, self.top + height)):
+        width = self.row_width(number, number + 1)
+        while not self.fits_at(width, self.ends_over(self.top, self.top + height)):
             self.top = self.next_foot(self.top)
         self.upto = number + 1
 
@@ -163,8 +173,16 @@ class Laying:
         if self.first == self.upto:
             return True
         foot = self.top + self.rows.height_of(self.first, self.upto)
-        ends = Ends([other for other in self.puts + [put] if other.stands_at(self.top, foot)])
-        return self.fits_between(self.rows.width_of(self.first, self.upto), ends)
+        ends = self.ends_of([other for other in self.puts + [put] if other.stands_at(self.top, foot)])
+        return self.fits_between(self.row_width(self.first, self.upto), ends)
+
+    def line_left(self, line, align):
+        """Where a line begins, from the left end of the room on."""
+        left = line.ends.left
+        spare = span_less(self.room, line.ends.with_width(self.row_width(line.first, line.upto)))
+        if align == "left" or not self.watch.is_upto(NOUGHT, spare):
+            return left
+        return span_sum(left, spare if align == "right" else span_share(spare, HALF))
 
     def whole_height(self):
         """The greater of the last line's foot and the lowest foot of a float."""

@@ -48,30 +48,42 @@ def told_room(room):
 
 
 class Word:
-    """A word: where its first sign is, its width and height, and the gap ahead of it."""
+    """A word: where its first sign is, its width and height, and the gap ahead of it.
+
+    signs are what is read; parts are triples (number of a text, begin, end), from the word's left end on.
+    """
 
     def __init__(self, at, gap):
         self.at = at
         self.width = 0
         self.height = 0
         self.gap = gap
+        self.signs = ""
+        self.parts = []
 
-    def take_sign(self, size):
+    def take_sign(self, index, size, sign):
+        begin = self.width
+        if self.parts and self.parts[-1][0] == index:
+            _, begin, _ = self.parts.pop()
         self.width += size
         self.height = max(self.height, 2 * size)
+        self.signs = self.signs + sign
+        self.parts.append((index, begin, self.width))
 
     def told(self):
         return (self.at, self.width, self.height, self.gap)
 
 
 class Met:
-    """A right run as it is met: its words, and its things in order.
+    """A right run as it is met: its words, its floats, and its things in order.
 
-    A thing is a pair, of the number of a word and None or of None and a float; a float within a word comes ahead of it.
+    A thing is a pair, of the number of a word and None or of None and that of a float; a float within a word comes
+    ahead of it.
     """
 
     def __init__(self, run):
         self.words = []
+        self.floats = []
         self.things = []
         self.word = None
         self.gap = 0
@@ -86,7 +98,8 @@ class Met:
 
     def take_float(self, thing):
         """Take a float; whether it stands within a word is known behind it."""
-        self.held.append((None, thing))
+        self.held.append((None, len(self.floats)))
+        self.floats.append(thing)
         if self.word is None:
             self.end_word()
 
@@ -109,7 +122,7 @@ class Met:
             self.things.extend(self.held + [begun])
             self.held = []
         self.gap = 0
-        self.word.take_sign(size)
+        self.word.take_sign(at[0], size, sign)
 
 
 class WordRows:
