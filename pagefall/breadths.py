@@ -27,8 +27,8 @@ class Breadths:
     """The widths in a page: by ids of boxes the room of what stands in one, its left pad, how wide it is with pads.
 
     lefts tells where a box begins, from the left end of what it stands in within the pads; of floats, until they are
-    laid, how far it stands from the left end of all that it takes; outers tells how much that is. rows goes from paths to
-    the lines of a row, lists of ids.
+    laid, how far it stands from the left end of all that it takes; outers tells how much that is. rows goes from paths
+    to the lines of a row, lists of ids.
     """
 
     def __init__(self, wants, about, room, watch):
@@ -136,7 +136,7 @@ class Breadths:
             self.take_line(path, line, room)
 
     def item_told(self, box, room):
-        """The triple (id, what it is told across, item of a row) of what stands in a row; of a nameless one no spans."""
+        """The triple (id, what it is told across, item) of what stands in a row; of a nameless one no spans."""
         path, number = box
         if number > 0:
             return (box, None, (span_of(self.wants.inner[box][1]), 0, 1, NOUGHT, None))

@@ -52,7 +52,7 @@ class Flexing:
     """The sizes of items whose sum is a total, or as near to it as they can come."""
 
     def __init__(self, items, total, watch):
-        self.items = items
+        self.row = items
         self.total = total
         self.watch = watch
         level_sum = sum_of_spans([self.seen_bounded(item[0], item) for item in items])
@@ -82,7 +82,7 @@ class Flexing:
 
     def is_reached(self, level):
         """Whether the sizes at a level are not yet on the other side of the total."""
-        whole = sum_of_spans([self.seen_bounded(bar.at_level(level), item) for bar, item in zip(self.bars, self.items)])
+        whole = sum_of_spans([self.seen_bounded(bar.at_level(level), item) for bar, item in zip(self.bars, self.row)])
         one, other = (whole, self.total) if self.is_growing else (self.total, whole)
         return self.watch.seems_upto(one, other)
 
@@ -116,7 +116,7 @@ class Flexing:
         states = self.states_behind(number)
         rate = sum([abs(bar.rate) for bar, state in zip(self.bars, states) if state == FREE])
         still = []
-        for bar, item, state in zip(self.bars, self.items, states):
+        for bar, item, state in zip(self.bars, self.row, states):
             if state == STILL:
                 still.append(whole_base(item, self.watch))
             elif state == FREE:

@@ -54,13 +54,23 @@ class Sight:
         left = form_span(box[2])
         return (left, span_sum(left, form_span(box[4])))
 
+    def holder_of(self, box):
+        """The box in which a box or a piece of a text stands, None for the root's."""
+        number = self.plan.holders.get(box[0][0] if box[1] == "text" else box[0])
+        return None if number is None else self.boxes[number]
+
+    def pairs(self):
+        """All boxes and pieces of texts but the root's, each with the box in which it stands."""
+        pairs = [(box, self.holder_of(box)) for box in list(self.boxes.values()) + self.pieces]
+        return [pair for pair in pairs if pair[1] is not None]
+
     def holders_of(self, box):
         """The boxes in which one stands, and in which that one stands, and so on."""
         holders = []
-        number = self.plan.holders.get(box[0])
-        while number is not None:
-            holders.append(self.boxes[number])
-            number = self.plan.holders.get(number)
+        holder = self.holder_of(box)
+        while holder is not None:
+            holders.append(holder)
+            holder = self.holder_of(holder)
         return holders
 
     def many_lines(self, box):
@@ -76,11 +86,18 @@ class Sight:
         return [self.stretch] if is_so else []
 
 
-def is_within(sight, box, watch):
+def is_inside(sight, box, holder, watch):
+    """Whether a box begins and ends, from left to right, in another one."""
     left, right = sight.sides(box)
-    for holder in sight.holders_of(box):
-        outer_left, outer_right = sight.sides(holder)
-        if not watch.is_upto(outer_left, left) or not watch.is_upto(right, outer_right):
+    outer_left, outer_right = sight.sides(holder)
+    return watch.is_upto(outer_left, left) and watch.is_upto(right, outer_right)
+
+
+def are_inside(sight, pairs, watch):
+    """Whether the first box of each pair is in the other one."""
+    # What need not be asked is not: each answer can end a stretch.
+    for box, holder in pairs:
+        if not is_inside(sight, box, holder, watch):
             return False
     return True
 
@@ -110,7 +127,8 @@ def where_single(sight, wish):
     if word == "wide":
         return sight.where(lambda watch: watch.is_upto(span_of(wish[2]), form_span(box[4])))
     if word == "within":
-        return sight.where(lambda watch: is_within(sight, box, watch))
+        pairs = [(box, holder) for holder in sight.holders_of(box)]
+        return sight.where(lambda watch: are_inside(sight, pairs, watch))
     other = boxes[1]
     if word == "above":
         return sight.where_if(box[3] + box[5] <= other[3])

@@ -39,6 +39,16 @@ FUNCTIONS = {
     "floats": ["laid_out(run, room, align)", "laid_height(run, room)", "why_there(run, room, number)", "all_shapes(run)",
                "lowest_rooms(run)", "run_need(run)", "run_wish(run)"],
     "rows": ["rows_part(one, other)"],
+    "needs": ["need_of(dressed, path)", "wish_of(dressed, path)"],
+    "columns": ["same_placings(one, other)", "placing_apart(one, other)", "columns_part(one, other)"],
+    "stretches": ["is_stretch(thing)", "are_stretches(thing)", "gathered_stretches(some)", "both_stretches(one, other)", "rest_of(one)",
+                  "is_width_in(some, width)", "first_width(some)", "where_upto(one, other)", "where_below(one, other)"],
+    "layouts": ["layout_at(design, width)", "height_at(design, width)", "sticking_out(design, width)", "box_with(design, width, box)",
+                "lines_at(design, width, path)"],
+    "faults": ["first_fault(design, width, thing)"],
+    "wide": ["page_pieces(design)", "page_turns(design)", "pieces_about(design, width, path, name)"],
+    "wanted": ["is_wish(thing)", "meets_wish(design, wish, width)", "widths_where(design, wish)", "first_where(design, wish)",
+               "where_about(design, width, path, name, wish)"],
     "stands": ["stand_of(spine, selector)", "stand_behind(selector, held, letter)"],
 }
 CLASSES = {
@@ -51,6 +61,11 @@ CLASSES = {
     ("rows", "Row"): ["__init__(items, gap=0)", "all_items()", "own_gap()", "sizes_at(room)", "left_at(room)", "level_at(room)",
                       "is_level(room, thing)", "all_pieces()", "room_for(index, size)", "both_ends()", "needless_bounds()",
                       "lines_at(room)", "wrapped_sizes(room)", "all_breaks()", "room_for_lines(many)", "__eq__(other)"],
+    ("columns", "Columns"): ["__init__(many, cells)", "how_many()", "all_cells()", "turned_round()", "is_placing(width, thing)", "least_width()",
+                             "side_by_side()", "shows_least(thing)", "places_of(line, width)", "distances_of(one, other, width)",
+                             "placing_with(line, place, width)", "needless_cells()", "told_lines(width)", "greatest_width()",
+                             "all_pieces()", "__eq__(other)"],
+    ("designs", "Design"): ["__init__(tree, sheet)", "own_tree()", "own_sheet()", "__eq__(other)"],
 }
 
 
