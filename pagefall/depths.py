@@ -112,7 +112,7 @@ class Depths:
         align = self.plan.worths(box[0])["align"]
         self.lines[box] = []
         for line in laying.lines:
-            self.lines[box].append([word.signs for word in run.met.words[line.first:line.upto]])
+            self.lines[box].append([word.as_read() for word in run.met.words[line.first:line.upto]])
             self.put_pieces(run, laying, line, laying.line_left(line, align))
         return laying.whole_height()
 

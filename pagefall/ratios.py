@@ -64,13 +64,23 @@ def sum_of(fractions):
     return total
 
 
+def place_among(ordered, fraction):
+    """How many of ascending fractions are below one."""
+    low, high = 0, len(ordered)
+    while low < high:
+        mid = (low + high) // 2
+        if is_below(ordered[mid], fraction):
+            low = mid + 1
+        else:
+            high = mid
+    return low
+
+
 def ascending(fractions):
     """The unlike ones of fractions in lowest terms, ascending."""
     ordered = []
     for fraction in fractions:
-        at = len(ordered)
-        while at > 0 and is_below(fraction, ordered[at - 1]):
-            at -= 1
-        if at == 0 or ordered[at - 1] != fraction:
+        at = place_among(ordered, fraction)
+        if at == len(ordered) or ordered[at] != fraction:
             ordered.insert(at, fraction)
     return ordered

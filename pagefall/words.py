@@ -58,7 +58,7 @@ class Word:
         self.width = 0
         self.height = 0
         self.gap = gap
-        self.signs = ""
+        self.signs = []
         self.parts = []
 
     def take_sign(self, index, size, sign):
@@ -67,11 +67,14 @@ class Word:
             _, begin, _ = self.parts.pop()
         self.width += size
         self.height = max(self.height, 2 * size)
-        self.signs = self.signs + sign
+        self.signs.append(sign)
         self.parts.append((index, begin, self.width))
 
     def told(self):
         return (self.at, self.width, self.height, self.gap)
+
+    def as_read(self):
+        return "".join(self.signs)
 
 
 class Met:

@@ -16,8 +16,8 @@ startswith strip update upper values zfill bit_length isascii add""".split())
 BANNED = """type typing enum Enum Generic Protocol namedtuple dataclass overload property eval exec globals locals vars dir id hash
 object next iter map filter format open input register mro elements law super compile exit help license quit
 getattr setattr hasattr delattr""".split()
-NODES_NOT_USED = (ast.Global, ast.Nonlocal, ast.Try, ast.With, ast.AsyncFunctionDef, ast.GeneratorExp, ast.Yield, ast.YieldFrom,
-                  ast.Match, ast.JoinedStr, ast.Starred, ast.SetComp, ast.Await, ast.AnnAssign, ast.Div, ast.Delete)
+NODES_NOT_USED = (ast.Global, ast.Nonlocal, ast.With, ast.AsyncFunctionDef, ast.GeneratorExp, ast.Yield, ast.YieldFrom,
+                  ast.Match, ast.Starred, ast.SetComp, ast.Await, ast.AnnAssign, ast.Div, ast.Delete)
 
 
 class LanguageTest(unittest.TestCase):
@@ -117,6 +117,19 @@ class LanguageTest(unittest.TestCase):
             for node in ast.walk(tree):
                 if isinstance(node, ast.Attribute):
                     self.assertIn(node.attr, own | METHODS | {"__init__"}, name)
+
+    def test_errors_that_are_caught(self):
+        """Handlers name own errors alone; what stands in a finally is the assignment of a name to an attribute."""
+        for name, _, tree in self.each():
+            for node in ast.walk(tree):
+                if isinstance(node, ast.Try):
+                    for handler in node.handlers:
+                        self.assertIsInstance(handler.type, ast.Name, name)
+                        self.assertNotIn(handler.type.id, BUILTINS, name)
+                    for row in node.finalbody:
+                        self.assertIsInstance(row, ast.Assign, name)
+                        self.assertIsInstance(row.value, ast.Name, name)
+                        self.assertIsInstance(row.targets[0], ast.Attribute, name)
 
     def test_names_of_attributes(self):
         """L26: no value of an object has a name that values of Python's own have, but for those that are let."""
