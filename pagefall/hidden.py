@@ -96,4 +96,5 @@ def where_hidden(ground, path):
 def hidden_widths(design, path):
     """The stretches of the widths at which an element has no box, or one that paints nothing or is covered."""
     path = design.own_tree().element_path(path)
-    return joined_stretches([stretch for ground in unrolled_page(design).grounds for stretch in where_hidden(ground, path)])
+    grounds = unrolled_page(design).grounds
+    return joined_stretches([stretch for ground in grounds for stretch in where_hidden(ground, path)])

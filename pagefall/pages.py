@@ -88,7 +88,7 @@ class Page:
         return list(self._past.stage.boxes())
 
     def last_changes(self):
-        """The dict of the ids of boxes that are gone, moved, new and sized by the last deed, taken back or done again."""
+        """The dict of the ids of boxes that are gone, moved, new and sized by the last deed, undoing or doing again."""
         if self._past.last is None:
             return {"gone": [], "moved": [], "new": [], "sized": []}
         return self._past.last.told()

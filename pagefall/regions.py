@@ -7,7 +7,9 @@ from pagefall.refusals import BadRectangle, BadRegion
 
 
 def is_run_pair(thing):
-    return is_list(thing) and len(thing) == 2 and all([is_fraction(end) for end in thing]) and is_below(thing[0], thing[1])
+    if not is_list(thing) or len(thing) != 2 or not all([is_fraction(end) for end in thing]):
+        return False
+    return is_below(thing[0], thing[1])
 
 
 def are_runs(thing):

@@ -1,61 +1,20 @@
 """What is outside an element, whatever texts stand in it.
 
 To what is outside, an inside of texts is its wish and its height. So a text is tried that is wider than all else can
-make good, and one of so many lines that it is higher than all beside it. Only where the room in the element grows with
-its texts these lines are not as many as one likes: then widths are tried one by one, each with as many lines as it lets.
+make good, and one of so many lines that it is higher than all beside it.
 """
 
 from pagefall.designs import Design
 from pagefall.layouts import depths_at, told_boxes
 from pagefall.ratios import plus, sum_of
 from pagefall.spans import span_worth
-from pagefall.trees import Tree
 
 STILL = (0, 1)
-# Up to so many signs each width is tried, behind that each is a quarter wider than the one ahead.
-CLOSE = 48
-
-
-def tree_with(tree, path, texts):
-    """The tree with texts in the place of the children of an element."""
-    name, classes, _ = tree.node_at(path)
-    node = (name, classes, tuple(texts))
-    for depth in range(len(path) - 1, -1, -1):
-        name, classes, children = tree.node_at(path[:depth])
-        node = (name, classes, children[:path[depth]] + (node,) + children[path[depth] + 1:])
-    return Tree(node)
 
 
 def text_of(words):
     """The text of words of so many signs each."""
     return " ".join(["a" * many for many in words])
-
-
-def lined_words(many, room):
-    """The lengths of so many words, no two neighbours of which stand in a room of so many signs.
-
-    Together they are as short as can be: every other one has one sign.
-    """
-    return [max(1, room - 1) if at % 2 else 1 for at in range(many)]
-
-
-def most_lines(signs, room):
-    """The lengths of the words of a text of so many signs that has the most lines in a room."""
-    pair = max(1, room - 1) + 3
-    # An odd number of words ends with one of one sign, and has no blank behind it.
-    many = (signs + 1) // pair * 2
-    if signs + 1 - many // 2 * pair >= 2:
-        many += 1
-    words = lined_words(max(1, many), room)
-    return words[:-1] + [words[-1] + signs - sum(words) - (len(words) - 1)]
-
-
-def tried_widths(most):
-    """Ascending numbers of signs up to about a greatest one."""
-    widths = list(range(1, CLOSE))
-    while widths[-1] < most:
-        widths.append(widths[-1] * 5 // 4)
-    return widths
 
 
 class Inside:
@@ -72,7 +31,7 @@ class Inside:
         self.size = self.plan.worths(path)["size"]
 
     def depths_with(self, texts):
-        tree = tree_with(self.design.own_tree(), self.path, texts)
+        tree = self.design.own_tree().with_inside(self.path, texts)
         return depths_at(Design(tree, self.design.own_sheet()), self.width)
 
     def boxes_outside(self, depths):
@@ -131,24 +90,13 @@ class Inside:
         many = max(self.height_beside() // (2 * self.size) + 2, widest // word + 1)
         self.room_with([word] * many)
 
-    def try_growing(self, widest):
-        """Try texts of all widths, each with as many lines as the room lets it have."""
-        best = [1]
-        for signs in tried_widths(widest):
-            words = most_lines(signs, self.room_with([signs]))
-            best = words if len(words) > len(best) else best
-        self.room_with(best)
-
     def try_all(self):
         """Try texts until one is felt outside."""
         widest = self.widest()
         room = self.room_with([widest])
-        if room is None or self.found is not None:
-            return
-        if self.room_with([2 * widest]) == room:
+        # Where the room grows with the text all stands on one line, and nothing can be higher.
+        if room is not None and self.found is None and self.room_with([2 * widest]) == room:
             self.try_high(room, widest)
-        else:
-            self.try_growing(widest)
 
 
 def unlike_insides(design, width, path):

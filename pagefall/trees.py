@@ -220,6 +220,10 @@ class Tree:
         kept = [word for word in classes if word != klass]
         return self._with_own(tuple(path), (name, kept, children))
 
+    def with_inside(self, path, nodes):
+        """The tree with other nodes, right ones, in the place of all children of an element."""
+        return self._with_children(path, 0, len(self._nodes[path][2]), nodes)
+
     def joined_texts(self):
         """The tree with texts side by side joined."""
         return Tree(told_node(self._nodes[()], joined_children))

@@ -49,6 +49,15 @@ FUNCTIONS = {
     "wide": ["page_pieces(design)", "page_turns(design)", "pieces_about(design, width, path, name)"],
     "wanted": ["is_wish(thing)", "meets_wish(design, wish, width)", "widths_where(design, wish)", "first_where(design, wish)",
                "where_about(design, width, path, name, wish)"],
+    "twos": ["alike_widths(one, other)", "first_unlike(one, other)", "unlike_boxes(one, other)"],
+    "tall": ["lowest_height(design)", "taller_though_wider(design)", "settled_from(design)", "roomy_from(design)"],
+    "pictures": ["sign_at(picture, x, y)", "shape_at(picture, x, y)", "painted_page(design, width)"],
+    "regions": ["is_region(thing)", "region_of(rectangles)", "joined_regions(one, other)", "common_region(one, other)", "left_region(one, other)",
+                "region_area(region)", "region_around(region)"],
+    "covers": ["seen_region(picture, number)", "first_seen(picture, number)", "least_cover(picture, number)", "is_cover(picture, number, thing)",
+               "sign_areas(picture)", "unlike_region(one, other)", "least_shapes(picture)"],
+    "hidden": ["hidden_widths(design, path)"],
+    "sheettexts": ["write_selector(selector)", "read_selector(text)", "write_value(value)", "read_value(text)", "write_sheet(sheet)", "read_sheet(text)"],
     "stands": ["stand_of(spine, selector)", "stand_behind(selector, held, letter)"],
 }
 CLASSES = {
@@ -65,6 +74,11 @@ CLASSES = {
                              "side_by_side()", "shows_least(thing)", "places_of(line, width)", "distances_of(one, other, width)",
                              "placing_with(line, place, width)", "needless_cells()", "told_lines(width)", "greatest_width()",
                              "all_pieces()", "__eq__(other)"],
+    ("pictures", "Picture"): ["__init__(shapes)", "all_shapes()", "__eq__(other)"],
+    ("pages", "Page"): ["__init__(tree, sheet, width)", "tree_now()", "sheet_now()", "width_now()", "put_node(path, node)", "take_node(path)",
+                        "new_text(path, text)", "mark_class(path, klass)", "unmark_class(path, klass)", "new_sheet(sheet)", "new_width(width)",
+                        "layout_now()", "last_changes()", "undo_last()", "do_again()", "deeds_done()", "twin_page()", "try_out(work)",
+                        "is_sealed(path)", "felt_outside(path)", "class_touches(path, klass)", "__eq__(other)"],
     ("designs", "Design"): ["__init__(tree, sheet)", "own_tree()", "own_sheet()", "__eq__(other)"],
 }
 
