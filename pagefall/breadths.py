@@ -70,7 +70,7 @@ class Breadths:
         elif kind == "table":
             self.take_table(path, room)
         elif kind == "blocks":
-            for box in self.plan.inner[path]:
+            for box in self.plan.parts[path]:
                 if box[1] > 0:
                     self.set_plain(box, NOUGHT, room)
                     self.take_floats(box)
@@ -126,7 +126,7 @@ class Breadths:
 
     def take_row(self, path, room):
         """Find out how wide the items of a row are, and on which lines they stand."""
-        told = [self.item_told(box, room) for box in self.plan.inner[path]]
+        told = [self.item_told(box, room) for box in self.plan.parts[path]]
         lines = [told] if told else []
         if self.plan.worths(path)["wrap"] == "yes":
             lines = self.broken(path, told, room)
@@ -188,7 +188,7 @@ class Breadths:
 
     def take_table(self, path, room):
         """Lay strips and cells: strips are as wide as the table within its pads."""
-        for box in self.plan.inner[path]:
+        for box in self.plan.parts[path]:
             self.set_plain(box, NOUGHT, room)
         if path in self.wants.columns:
             lines = self.column_lines(path, room)

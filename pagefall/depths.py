@@ -54,15 +54,15 @@ class Depths:
             return self.put_lines((path, 0))
         if kind == "row":
             return self.put_items(path)
-        inner = self.plan.inner[path]
+        parts = self.plan.parts[path]
         if kind == "strip":
-            return self.put_cells(inner)
+            return self.put_cells(parts)
         if kind == "table":
-            return self.put_stack(inner, [(0, self.heights[box], 0) for box in inner])
-        for box in inner:
+            return self.put_stack(parts, [(0, self.heights[box], 0) for box in parts])
+        for box in parts:
             if box[1] > 0:
                 self.heights[box] = self.put_lines(box)
-        return self.put_stack(inner, [self.stack_row(box) for box in inner])
+        return self.put_stack(parts, [self.stack_row(box) for box in parts])
 
     def stack_row(self, box):
         """The upper margin, the height and the lower margin of a box that stands in another one."""

@@ -2,7 +2,7 @@
 
 from pagefall.errors import BadWidth
 from pagefall.kinds import is_list, is_path, is_whole, is_width
-from pagefall.placings import boxes_of, laid_page
+from pagefall.laidpages import boxes_of, laid_page
 from pagefall.ratios import is_below, plus
 from pagefall.refusals import NoBox, NoLines
 from pagefall.spans import span_worth, still_span

@@ -26,9 +26,9 @@ def run_words(met):
 def cells_of(plan, path):
     """For each strip of a table the triples (path of a cell, first column, last column)."""
     strips = []
-    for strip, _ in plan.inner[path]:
+    for strip, _ in plan.parts[path]:
         row = []
-        for cell, _ in plan.inner[strip]:
+        for cell, _ in plan.parts[strip]:
             first = row[-1][2] + 1 if row else 0
             row.append((cell, first, first + plan.worths(cell)["span"] - 1))
         strips.append(row)
@@ -64,11 +64,11 @@ class Wants:
         kind = self.plan.kinds[path]
         if kind == "lines":
             return self.run_pair((path, 0))
-        inner = self.plan.inner[path]
-        for box in inner:
+        parts = self.plan.parts[path]
+        for box in parts:
             if box[1] > 0:
                 self.inner[box] = self.outer[box] = self.run_pair(box)
-        pairs = [self.outer[box] for box in inner]
+        pairs = [self.outer[box] for box in parts]
         if kind == "row":
             return self.row_pair(path, pairs)
         if kind == "table":

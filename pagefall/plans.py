@@ -5,16 +5,14 @@ from pagefall.words import Met
 
 
 class Run:
-    """The run of a line block: paths of its texts and floats, and the words met in it."""
+    """The run of a line block: paths of its texts and floats, sizes of its texts, and the words met in it."""
 
     def __init__(self, dressed, run):
         self.things = run
         self.floats = [path for what, path in run if what == "float"]
-        told = []
-        for what, path in run:
-            # How wide and how high a float is shows when it is laid.
-            told.append(("left", 0, 0) if what == "float" else text_told(dressed, path))
-        self.sizes = [size for size, _ in [thing[:2] for thing in told]]
+        # How wide and how high a float is shows when it is laid.
+        told = [("left", 0, 0) if what == "float" else text_told(dressed, path) for what, path in run]
+        self.sizes = [thing[0] for thing in told]
         self.met = Met(told)
 
     def text_at(self, index):
@@ -29,7 +27,7 @@ def text_told(dressed, path):
 class Plan:
     """How a dressed page stands; ids of boxes are pairs (path, number).
 
-    boxed are the paths of the elements with boxes, in tree order; runs go from the ids of line blocks, inner from the
+    boxed are the paths of the elements with boxes, in tree order; runs go from the ids of line blocks, parts from the
     paths of other boxed ones to the ids in their boxes; holders from ids, and from paths of texts, to the ids of the
     boxes in which they stand; order are the pairs (id, None) and (None, path of a text) in tree order.
     """
@@ -38,7 +36,7 @@ class Plan:
         self.dressed = dressed
         self.flow = Flow(dressed)
         self.kinds = {}
-        self.inner = {}
+        self.parts = {}
         self.runs = {}
         self.holders = {}
         self.boxed = [path for path in dressed.own_tree().all_elements() if self.flow.has_box(path)]
@@ -64,9 +62,9 @@ class Plan:
         if kind == "lines":
             self.take_run(box, self.flow.run_of(self.flow.children_of(path)))
             return
-        self.inner[path] = []
+        self.parts[path] = []
         for part, run, _ in self.flow.parts_in(path):
-            self.inner[path].append(part)
+            self.parts[path].append(part)
             self.holders[part] = box
             if run is not None:
                 self.take_run(part, run)

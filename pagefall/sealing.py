@@ -63,7 +63,7 @@ class Inside:
         """The greatest height, with margins, of what stands beside an item that the element is or stands in."""
         heights = [0]
         for path in self.items_around():
-            for box in self.plan.inner[path[:-1]]:
+            for box in self.plan.parts[path[:-1]]:
                 if box != (path, 0):
                     heights.append(sum(self.empty.stack_row(box)))
         return max(heights)
@@ -77,7 +77,7 @@ class Inside:
             row = path[:-1]
             room = breadths.rooms[(row, 0)]
             whole = plus(whole, span_worth(room, STILL))
-            for box in self.plan.inner[row]:
+            for box in self.plan.parts[row]:
                 _, _, (base, _, rate, least, _) = breadths.item_told(box, room)
                 shrink = max(shrink, rate)
                 taken = [span_worth(span, STILL) for span in (base, least, breadths.wides[box])]

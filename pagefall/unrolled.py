@@ -1,7 +1,7 @@
 """A page at all widths: its cells between ends of conditions, and the pieces that they make."""
 
 from pagefall.forms import worth_at
-from pagefall.placings import boxes_of, laid_page
+from pagefall.laidpages import boxes_of, laid_page
 from pagefall.ratios import ZERO
 from pagefall.spans import WIDTH, span_form, still_span
 from pagefall.stretches import ALL_WIDTHS, shared_pairs
