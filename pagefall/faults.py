@@ -14,7 +14,7 @@ def is_that_box(thing, box):
     number, kind = thing[:2]
     if not is_list(number) or len(number) != 2 or not is_path(number[0]) or not is_whole(number[1]):
         return False
-    return (tuple(number[0]), number[1]) == box[0] and isinstance(kind, str) and kind == box[1]
+    return (tuple(number[0]), number[1]) == box[0] and kind == box[1]
 
 
 def is_that_part(thing, part):

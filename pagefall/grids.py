@@ -1,6 +1,6 @@
 """Grids: rows of cells between all edges of some rectangles, the cells of a row being bits."""
 
-from pagefall.ratios import ascending, is_below, plus
+from pagefall.ratios import ascending, plus
 
 
 class Grid:
@@ -18,10 +18,10 @@ class Grid:
             bits |= (1 << self.columns[right]) - (1 << self.columns[left])
         return bits
 
-    def rows_of(self, region):
-        """The bits of all rows of a region whose edges are in the grid."""
+    def rows_of(self, slabs):
+        """The bits of all rows of the cells in some slabs whose edges are in the grid."""
         rows = [0] * len(self.ys)
-        for top, foot, runs in region:
+        for top, foot, runs in slabs:
             bits = self.bits_of(runs)
             for at in range(len(self.ys)):
                 if top <= self.ys[at] < foot:
@@ -54,22 +54,19 @@ class Grid:
         return region
 
 
-def grid_around(regions):
-    """The grid of all edges of some regions."""
-    slabs = [slab for region in regions for slab in region]
+def grid_around(slabs):
+    """The grid of all edges of some slabs."""
     return Grid([x for _, _, runs in slabs for run in runs for x in run], [y for slab in slabs for y in slab[:2]])
 
 
-def region_within(left, top, width, height):
-    """The region of a rectangle, [] for one that holds no point."""
-    right = plus(left, width)
-    return [(top, top + height, ((left, right),))] if height > 0 and is_below(left, right) else []
+def slab_of(left, top, width, height):
+    """The slab of a rectangle, perhaps without any cell."""
+    return (top, top + height, ((left, plus(left, width)),))
 
 
-def shape_region(shape):
-    """The region of the points that a shape holds."""
+def shape_slab(shape):
     _, left, top, width, height, _ = shape
-    return region_within(left, top, width, height)
+    return slab_of(left, top, width, height)
 
 
 class Painted:
@@ -78,7 +75,7 @@ class Painted:
     def __init__(self, shapes, grid):
         self.shapes = shapes
         self.grid = grid
-        self.rows = [grid.rows_of(shape_region(shape)) for shape in shapes]
+        self.rows = [grid.rows_of([shape_slab(shape)]) for shape in shapes]
 
     def paints(self, number):
         return self.shapes[number][5] is not None
@@ -113,4 +110,4 @@ def painted_on(picture, others=()):
     """A picture on the grid of all edges of it and of some others."""
     shapes = picture.all_shapes()
     all_shapes = shapes + [shape for other in others for shape in other.all_shapes()]
-    return Painted(shapes, grid_around([shape_region(shape) for shape in all_shapes]))
+    return Painted(shapes, grid_around([shape_slab(shape) for shape in all_shapes]))

@@ -2,8 +2,8 @@
 
 from pagefall.changes import Change, Stage
 from pagefall.designs import Design
-from pagefall.errors import BadClass, BadWidth
-from pagefall.kinds import is_width, is_word
+from pagefall.errors import BadWidth
+from pagefall.kinds import is_width
 from pagefall.properties import PROPERTIES
 from pagefall.ratios import told_fraction
 from pagefall.sealing import unlike_insides
@@ -140,11 +140,9 @@ class Page:
     def class_touches(self, path, klass):
         """The pairs (path, word) of the worths that turn if an element gets a class or, if it has it, loses it."""
         tree = self.tree_now()
-        path = tree.element_path(path)
-        if not is_word(klass):
-            raise BadClass(klass)
-        has = klass in tree.node_at(path)[1]
-        other = tree.without_class(path, klass) if has else tree.with_class(path, klass)
+        other = tree.with_class(path, klass)
+        if other == tree:
+            other = tree.without_class(path, klass)
         worths = all_worths(self.sheet_now(), tree, self.width_now())
         others = all_worths(self.sheet_now(), other, self.width_now())
         return [(at, word) for at in worths for word in PROPERTIES if worths[at][word] != others[at][word]]

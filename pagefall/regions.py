@@ -1,6 +1,6 @@
 """Regions: points in slabs of runs."""
 
-from pagefall.grids import grid_around, region_within
+from pagefall.grids import grid_around, slab_of
 from pagefall.kinds import is_integer, is_list, is_whole, is_width
 from pagefall.ratios import ZERO, ascending, is_below, is_fraction, minus, plus, times, told_fraction
 from pagefall.refusals import BadRectangle, BadRegion
@@ -64,19 +64,16 @@ def region_of(rectangles):
     for index, rectangle in enumerate(rectangles):
         if not is_rectangle(rectangle):
             raise BadRectangle(index)
-    regions = [region_within(told_fraction(left), top, width, height) for left, top, width, height in rectangles]
-    grid = grid_around(regions)
-    rows = [0] * len(grid.ys)
-    for region in regions:
-        rows = [bits | more for bits, more in zip(rows, grid.rows_of(region))]
-    return grid.region_of(rows)
+    slabs = [slab_of(told_fraction(left), top, width, height) for left, top, width, height in rectangles]
+    grid = grid_around(slabs)
+    return grid.region_of(grid.rows_of(slabs))
 
 
 def rows_of_both(one, other):
     """The grid of two regions, and the pairs of the bits of both in each row."""
     one = told_region(one)
     other = told_region(other)
-    grid = grid_around([one, other])
+    grid = grid_around(one + other)
     return (grid, list(zip(grid.rows_of(one), grid.rows_of(other))))
 
 

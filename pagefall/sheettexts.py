@@ -9,8 +9,6 @@ from pagefall.sheets import Sheet
 
 SIGNS = {"child": ">", "below": ">>", "next": "+", "behind": "~"}
 RELATIONS = {">": "child", ">>": "below", "+": "next", "~": "behind"}
-# An own name: for one all values are let that are let for some property, but for two words.
-ANY_NAME = "--a"
 
 
 def simple_text(simple):
@@ -57,8 +55,8 @@ def read_selector(text):
 
 
 def is_value(thing):
-    """Whether any object is let for some property or own name."""
-    return is_let(ANY_NAME, thing) or any([is_let(word, thing) for word in PROPERTIES])
+    """Whether any object is let for some property: what is let for an own name is let for one, too."""
+    return any([is_let(word, thing) for word in PROPERTIES])
 
 
 def value_text(value):
@@ -87,7 +85,7 @@ def write_value(value):
 def read_value(text):
     """The value that is written so."""
     value = parsed_value(text) if isinstance(text, str) else None
-    if value is None or not is_value(value):
+    if not is_value(value):
         raise BadText(0)
     return value
 
@@ -155,7 +153,7 @@ def parsed_set(line, declarations):
     if words and word_place(parts[1]) <= word_place(words[-1]):
         return None
     value = parsed_value(parts[2])
-    return (parts[1], value) if value is not None and is_let(parts[1], value) else None
+    return (parts[1], value) if is_let(parts[1], value) else None
 
 
 def read_sheet(text):

@@ -44,7 +44,7 @@ def settled_from(design):
     at = len(pieces) - 1
     while at > 0 and level_boxes(pieces[at - 1][1]) == last:
         at -= 1
-    return pieces[at][0][:2] if at > 0 else (ZERO, True)
+    return pieces[at][0][:2]
 
 
 def where_within(ground):

@@ -1,8 +1,6 @@
 """Wishes: at which widths they are met."""
 
 from pagefall.abouts import about_wants
-from pagefall.errors import BadWidth
-from pagefall.kinds import is_width
 from pagefall.layouts import depths_at
 from pagefall.ratios import told_fraction
 from pagefall.refusals import BadWish
@@ -54,8 +52,6 @@ def where_on(grounds, wish):
 def meets_wish(design, wish, width):
     """Whether a wish is met at a width."""
     check_wish(wish)
-    if not is_width(width):
-        raise BadWidth(width)
     depths = depths_at(design, width)
     width = told_fraction(width)
     ground = Ground((width, True, width, True), formed_boxes(depths), depths.plan)

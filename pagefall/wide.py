@@ -11,12 +11,10 @@ def page_pieces(design):
 
 def tree_place(box):
     """What tells, compared, where a told box is in tree order."""
-    (path, number), kind = box[:2]
-    if kind == "text":
-        return ([2 * child + 1 for child in path], number)
+    path, number = box[0]
     place = [2 * child + 1 for child in path]
-    # A nameless box comes right ahead of the child whose number is one less than its own.
-    return (place + [2 * number - 2] if number > 0 else place, 0)
+    # A nameless box comes right ahead of the child whose number is one less than its own; pieces of a text by numbers.
+    return place + [2 * number - 2] if number > 0 else place
 
 
 def turned_boxes(one, other):

@@ -127,6 +127,8 @@ class ColumnsTest(unittest.TestCase, Asserts):
         # Lines never fall, even where no cell asks for it.
         self.assertFalse(Columns(2, []).is_placing((5, 1), [(0, 1), (6, 1), (5, 1)]))
         self.assertFalse(columns.is_placing((15, 1), [(0, 1), (7, 1), (15, 1)]))
+        self.assertFalse(Columns(2, []).is_placing((5, 1), [(1, 1), (2, 1), (5, 1)]))
+        self.assertFalse(Columns(2, []).is_placing((5, 1), [(0, 1), (2, 1), (4, 1)]))
 
     def test_wrong_asked(self):
         columns = Columns(3, [(0, 0, 4, 10), (1, 2, 5, 6)])

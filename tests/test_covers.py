@@ -41,7 +41,7 @@ class CoversTest(unittest.TestCase, Asserts):
         picture = Picture(MORE + [("n", (0, 1), 0, (9, 1), 9, None)])
         for thing in ([1, 2, 3], (3, 1, 2)):
             self.assertIs(is_cover(picture, 0, thing), True)
-        for thing in (None, 5, "ab", [], [1, 2], [1, 2, 3, 3], [0, 1, 2, 3], [1, 2, 3, 4], [1, 2, 3, True], [1, 2, 3, 9], [1, 2, 3, -1], {1: 1},
+        for thing in (None, 5, "ab", [], [1, 2], [1, 2, 3, 3], [0, 1, 2, 3], [1, 2, 3, 4], [1, 2, 3, True], [True, 2, 3], [1, 2, 3, 9], [1, 2, 3, -1], {1: 1},
                       [None], deep_list(2000)):
             self.assertIs(is_cover(picture, 0, thing), False)
         # Who holds nothing is covered by none.

@@ -40,6 +40,16 @@ class HiddenTest(unittest.TestCase, Asserts):
                       rule("p", at=(0, 0), width=PART, height=2, most=5, fill="b"), rule("q", at=(PART, 0), width=5, height=2, fill="c"))
         self.assertEqual(hidden_widths(design, (0,)), [((10, 1), True, (10, 1), True)])
 
+    def test_chains_that_break(self):
+        # The second one of a chain goes away from the first one.
+        rules = [rule("b", at=(0, 0), width=10, height=2, fill="a"), rule("p", at=(0, 0), width=5, height=2, fill="b")]
+        node = [("b", [], []), ("p", [], []), ("q", [], [])]
+        self.assertEqual(hidden_widths(page(node, *rules, rule("q", at=(PART, 0), width=10, height=2, fill="c")), (0,)), [((0, 1), True, (10, 1), True)])
+        # It comes from the right: a right float, twice as wide as the page.
+        falling = page([("q", [], []), ("b", [], []), ("p", [], [])], *rules[:1], rule("p", at=(7, 0), width=3, height=2, fill="b"),
+                       rule("q", side="right", width=PART, mright=PART, height=2, fill="c"))
+        self.assertEqual(hidden_widths(falling, (1,)), [])
+
     def test_no_box_and_nothing_painted(self):
         gone = (0, [(None, ("b", [], [], None))], {"show": "none"}, (5, 9))
         design = page([("b", [], [("c", [], ["x"])])], rule("b", show="block", height=1, fill="a"), gone)
@@ -69,7 +79,8 @@ class HiddenTest(unittest.TestCase, Asserts):
         for _ in range(40):
             design = some_design(dice, 4 + dice.throw(20), 3 + dice.throw(18), ends=(5, 10, 20))
             fills = (0, [(None, (None, [], [], dice.pick([None, (2, 0), (2, 1)])))], {"fill": "a"}, None)
-            design = Design(design.own_tree(), Sheet(design.own_sheet().all_rules() + [fills]))
+            wide = (0, [(None, ("c", [], [], None))], {"side": "right", "width": ("part", 170), "height": 30, "mright": ("part", 40), "layer": 3, "show": "block"}, None)
+            design = Design(design.own_tree(), Sheet(design.own_sheet().all_rules() + [fills] + [wide][dice.throw(2):]))
             stretches = [stretch for stretch, _ in page_pieces(design)]
             for path in design.own_tree().all_elements()[::2]:
                 found = hidden_widths(design, path)

@@ -323,7 +323,7 @@ class FaultsTest(unittest.TestCase):
                 # Words of a box in their order, of boxes the first one.
                 worse = thing[:at] + [thing[at][:5] + ((None,) if place < 5 else (bad,))] + [None] * (len(boxes) - at - 1)
                 self.assertEqual(first_fault(design, width, worse), (at, word))
-        for bad in (None, 5, "abcdef", box[:5], box + (1,), ((box[0][0], box[0][1] + 9),) + box[1:], (box[0], "other") + box[2:],
+        for bad in (None, 5, "abcdef", (None,) + box[1:], (5,) + box[1:], ((None, 0),) + box[1:], ((box[0][0], None),) + box[1:], box[:5], box + (1,), ((box[0][0], box[0][1] + 9),) + box[1:], (box[0], "other") + box[2:],
                     (box[0][0],) + box[1:], (box[0], None) + box[2:], deep_list(2000), (deep_list(2000),) + box[1:]):
             self.assertEqual(first_fault(design, width, boxes[:at] + [bad] + boxes[at + 1:]), (at, "box"))
 

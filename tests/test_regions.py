@@ -11,7 +11,7 @@ from test_layouts import NO_WIDTHS
 ZERO = (0, 1)
 RUN = ((0, 1), (2, 1))
 NO_RUNS = [None, 5, (), RUN, (RUN, RUN), (((2, 1), (2, 1)),), (((2, 1), (1, 1)),), (RUN, ((2, 1), (3, 1))), (RUN, ((1, 1), (3, 1))), ((ZERO,),),
-           ((ZERO, (1, 1), (2, 1)),), {0: 1}, deep_list(2000)]
+           ((ZERO, (1, 1), (2, 1)),), (5,), (None,), ("ab",), (RUN, {0: 1, 1: 2}), {0: 1}, deep_list(2000)]
 NO_SLABS = [None, 5, "abc", (), (0, 1), (0, 1, (RUN,), 1), (1, 1, (RUN,)), (2, 1, (RUN,)), (True, 2, (RUN,)), (0, True, (RUN,)), ((0, 1), 2, (RUN,)),
             deep_list(2000)] + [(0, 1, runs) for runs in NO_RUNS] + [(0, 1, ((ZERO, bad),)) for bad in NO_FRACTIONS]
 

@@ -79,7 +79,7 @@ class SealingTest(unittest.TestCase):
         last = page(node[::-1], *rules, rule("j", shrink=0))
         self.assertTrue(self.check(last, (30, 1), (1,), dice))
         # Only what is higher than its neighbour is felt.
-        high = page(node, rule("page", show="row"), rule("i", base=4), rule("j", height=50, base=3))
+        high = page(node, rule("page", show="row"), rule("i", base=4), rule("j", height=9999, mtop=77, base=3))
         self.assertFalse(self.check(high, (7, 1), (0,), dice))
         # It stands last, nobody gives way, and all its words stand in one line: it is never higher than its neighbour.
         low = page(node[::-1], rule("page", show="row"), rule("i", shrink=0), rule("j", height=2, shrink=0))

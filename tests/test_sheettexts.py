@@ -146,7 +146,7 @@ class SheetTextsTest(unittest.TestCase, Asserts):
                 (good + "set --b 1\nset --a 1\n", 3), (good + "set --b 1\nset ink r\n", 3), (good + "set\n", 2), (good + "set ink\n", 2), (good + " set ink r\n", 2),
                 ("rule 4 - a\n", 0), ("rule 00 - a\n", 0), ("rule -1 - a\n", 0), ("rule 0 a\n", 0), ("rule 0 -  a\n", 0), ("rule 0 - a > \n", 0), ("rule 0 - a.m.k\n", 0),
                 ("rule 0 5 a\n", 0), ("rule 0 .. a\n", 0), ("rule 0 ..5 a\n", 0), ("rule 0 5..5 a\n", 0), ("rule 0 5..4 a\n", 0), ("rule 0 05.. a\n", 0),
-                ("rule 0 5...6 a\n", 0), ("rule 0 -5.. a\n", 0), ("rule 0 - \n", 0), ("rule 0 -\n", 0), ("Rule 0 - a\n", 0), ("rule  0 - a\n", 0),
+                ("rule 0 5...6 a\n", 0), ("rule 0 -5.. a\n", 0), ("rule 0 - \n", 0), ("rule 0 -\n", 0), ("rule 0\n", 0), ("rule\n", 0), (good + "get ink r\n", 2), ("Rule 0 - a\n", 0), ("rule  0 - a\n", 0),
                 (good + good + "rule 0 - a\nset x 5\nset y 5\n", 5), (good + "rule 1 - b", 2), (good + "set side left\nset", 2), ("x", 0), (good + "\r\n", 2)]
         for text, index in rows:
             self.assert_raises(BadText, index, read_sheet, text)

@@ -41,6 +41,10 @@ class TwosTest(unittest.TestCase):
         longest = page([("b", [], [])], rule("b", show="block", width=PART, most=4))
         self.assertEqual(first_unlike(one, longest), ((8, 1), False))
         self.assertEqual(unlike_boxes(one, longest), {((0,), 0): ((8, 1), False)})
+        # The one is all of the other, but for its last box.
+        more = page([("b", [], []), ("p", [], [])], rule("b", show="block", width=PART), rule("p", at=(0, 0)))
+        self.assertEqual((alike_widths(one, more), alike_widths(more, one)), ([], []))
+        self.assertEqual(unlike_boxes(one, more), {((1,), 0): ((0, 1), True)})
         self.assertEqual(list(unlike_boxes(EXAMPLE, EXAMPLE_FLOAT)), [((), 0), ((0,), 0), ((0,), 1), ((1,), 0), ((1,), 1)])
 
     def test_two_pages_at_all_widths(self):

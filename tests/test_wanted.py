@@ -70,6 +70,11 @@ class WantedTest(unittest.TestCase, Asserts):
             self.assertEqual(widths_where(design, wish), stretches, wish)
             self.assertEqual(first_where(design, wish), first_width(stretches))
 
+    def test_lines_of_unlike_sizes(self):
+        design = page(["a ", ("b", [], ["b"]), " c d"], rule("b", size=4))
+        self.assertEqual(widths_where(design, ("lines", (), 1)), [((10, 1), True, None, False)])
+        self.assertEqual(widths_where(design, ("lines", (), 3)), [((3, 1), True, None, False)])
+
     def test_conditions_part_where_a_box_stands(self):
         # The element is a float in the root's run below 10 and an item-like block from there on; its box is the same.
         sheet = [rule(None, size=1), rule("o", show="block", width=4), rule("p", at=(0, 0), width=6),

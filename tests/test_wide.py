@@ -231,6 +231,24 @@ class WideTest(unittest.TestCase, Asserts):
         for path, name in (((0,), "width"), ((1,), "least"), ((1, 0), "least"), ((2,), "least"), ((), "pleft")):
             self.assertIsInstance(pieces_about(design, (9, 1), path, name), list)
 
+    def test_where_needs_hang_on_a_length(self):
+        node = [("i", [], [("d", [], [("e", [], [])])])]
+        rows = [({"base": "auto", "width": "auto"}, False), ({"base": 5, "width": "auto"}, True), ({"base": "auto", "width": 5}, True), ({"base": PART, "width": PART}, True)]
+        for told_so, is_right in rows:
+            design = page(node, rule("page", show="row"), rule("i", **told_so), rule("d", show="block"), rule("e", show="block", width=3))
+            self.check_asked(design, (0, 0, 0), "width", is_right)
+            self.check_asked(design, (0,), "least", True)
+        for told_so, is_right in (({"width": "auto"}, False), ({"width": 5}, True), ({"width": PART}, True)):
+            design = page(node, rule("i", side="left", **told_so), rule("d", show="block"), rule("e", show="block", width=3))
+            self.check_asked(design, (0, 0, 0), "width", is_right)
+            self.check_asked(design, (0,), "least", True)
+
+    def check_asked(self, design, path, name, is_right):
+        if is_right:
+            self.assertIsInstance(pieces_about(design, (9, 1), path, name), list)
+        else:
+            self.assert_raises(BadAbout, (path, name), pieces_about, design, (9, 1), path, name)
+
     def test_what_is_told_is_new(self):
         page_pieces(EXAMPLE)[0][1].clear()
         self.assertEqual(len(page_pieces(EXAMPLE)[0][1]), 3)
