@@ -178,8 +178,8 @@ class Breadths:
         for (box, spans, _), size in zip(line, sizes):
             right = NOUGHT
             if spans is None:
+                # In the nameless box of a row there are no floats.
                 self.set_plain(box, at, size)
-                self.take_floats(box)
             else:
                 size = self.raised(box[0], size)
                 self.set_box(box, span_sum(at, span_or_nought(spans[3])), spans[5:], size)

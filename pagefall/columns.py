@@ -198,17 +198,16 @@ def same_placings(one, other):
 def parting_placing(one, other):
     """The pair of the least integer width and a placing of the one for it that is none of the other, or None."""
     many = one.how_many()
-    least = None
+    found = []
     for low, high in line_pairs(many):
         if one.way(low, high) < other.way(low, high):
             # Just from this width on the two lines can stand nearer to each other than the other one lets them.
             near = one.way(0, high) + one.way(low, many) - other.way(low, high) + 1
-            found = (max(one.least_width(), near), low)
-            least = found if least is None or found[0] < least[0] else least
-    if least is None:
+            found.append((max(one.least_width(), near), low))
+    if not found:
         return None
-    width = (least[0], 1)
-    return (width, one.placing_near(least[1], width))
+    least, line = min(found)
+    return ((least, 1), one.placing_near(line, (least, 1)))
 
 
 def placing_apart(one, other):

@@ -1,7 +1,6 @@
 """Parts of texts read: numbers, simples and values."""
 
 from pagefall.kinds import is_word
-from pagefall.properties import is_own_name
 from pagefall.selectors import is_simple
 
 FIGURES = "0123456789"
@@ -27,9 +26,9 @@ def parsed_integer(text):
 
 def parsed_place(text):
     """The pair of the numbers of a place, or None."""
-    many, dot, rest = text.partition(".")
+    many, _, rest = text.partition(".")
     numbers = (parsed_number(many), parsed_number(rest))
-    return None if dot == "" or None in numbers else numbers
+    return None if None in numbers else numbers
 
 
 def is_rising(words):
@@ -70,9 +69,9 @@ def parsed_single(text):
 
 def parsed_pair(text):
     """The pair for a place from two texts with a comma between, or None."""
-    length, comma, number = text.partition(",")
+    length, _, number = text.partition(",")
     parts = (parsed_single(length), parsed_integer(number))
-    return None if comma == "" or None in parts else parts
+    return None if None in parts else parts
 
 
 def parsed_plain(text):
@@ -87,8 +86,6 @@ def parsed_value(text):
     if text[:4] != "use(" or text[-1:] != ")":
         return parsed_plain(text)
     name, comma, fallback = text[4:-1].partition(",")
-    if not is_own_name(name):
-        return None
     if comma == "":
         return ("use", name)
     value = parsed_plain(fallback)

@@ -18,16 +18,16 @@ class Causes:
 
     def __init__(self, sheet, tree, path, width):
         self.path = path
-        self.winning = values_along(sheet, tree, path, width)
+        self.won = values_along(sheet, tree, path, width)
         self.numbers = numbers_along(sheet, tree, path, width)
-        self.owns = owns_along(self.winning)
-        self.rings = [rings_in(own_sayings(winning)) for winning in self.winning]
+        self.owns = owns_along(self.won)
+        self.rings = [rings_in(own_sayings(winning)) for winning in self.won]
 
     def reason(self, depth, word, how):
         return (self.path[:depth], word, how, self.numbers[depth].get(word))
 
     def own_how(self, depth, word):
-        saying = self.winning[depth].get(word)
+        saying = self.won[depth].get(word)
         if saying is None:
             return how_of_nothing(self.path[:depth], word)
         if not is_use(saying):
@@ -43,16 +43,16 @@ class Causes:
             how = self.own_how(depth, word)
             reasons.append(self.reason(depth, word, how))
             if how == "round":
-                return reasons + [self.reason(depth, word, how_unused(self.winning[depth][word]))]
+                return reasons + [self.reason(depth, word, how_unused(self.won[depth][word]))]
             if how == "handed":
                 depth -= 1
             elif how == "use":
-                word = self.winning[depth][word][1]
+                word = self.won[depth][word][1]
             else:
                 return reasons
 
     def property_how(self, depth, word):
-        value = self.winning[depth].get(word)
+        value = self.won[depth].get(word)
         path = self.path[:depth]
         if value is None:
             return how_of_nothing(path, word)
@@ -71,8 +71,8 @@ class Causes:
                 how = how_of_nothing(path, word)
                 reasons.append((path, word, how, None))
             elif how == "use":
-                reasons.extend(self.own_reasons(depth, self.winning[depth][word][1]))
-            is_times = is_marked(taken_value(word, self.winning[depth], self.owns[depth]), "times")
+                reasons.extend(self.own_reasons(depth, self.won[depth][word][1]))
+            is_times = is_marked(taken_value(word, self.won[depth], self.owns[depth]), "times")
             if how not in ("handed", "parent") and not is_times or depth == 0:
                 return reasons
             depth -= 1

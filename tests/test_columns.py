@@ -148,6 +148,8 @@ class ColumnsTest(unittest.TestCase, Asserts):
         for line in (4, -1, True, None, (1, 1)):
             self.assert_keeps(NoLine, line, columns.distances_of, line, line, (9, 1))
             self.assert_keeps(NoLine, line, columns.distances_of, 1, line, (9, 1))
+            self.assert_keeps(NoLine, line, columns.distances_of, line, 2, (9, 1))
+            self.assert_keeps(NoLine, line, columns.distances_of, line, 9, (9, 1))
         for other in (0, 1):
             self.assert_raises(NoLine, other, columns.distances_of, 1, other, (9, 1))
         self.assert_raises(NoLine, 0, columns.distances_of, 3, 0, (9, 1))
@@ -201,10 +203,10 @@ class ColumnsTest(unittest.TestCase, Asserts):
     def test_needless_cells_and_same_placings_by_all_placings(self):
         dice = Dice(33)
         apart = 0
-        for _ in range(120):
+        for _ in range(250):
             many = 1 + dice.throw(3)
-            one = some_columns(dice, many, dice.throw(4), 4)
-            other = some_columns(dice, many, dice.throw(4), 4)
+            one = some_columns(dice, many, dice.throw(5), 4)
+            other = some_columns(dice, many, dice.throw(5), 4)
             if dice.throw(3) == 0:
                 other = Columns(many, one.all_cells()[1:])
             top = one.least_width() + other.least_width() + 3

@@ -49,6 +49,10 @@ class HiddenTest(unittest.TestCase, Asserts):
         falling = page([("q", [], []), ("b", [], []), ("p", [], [])], *rules[:1], rule("p", at=(7, 0), width=3, height=2, fill="b"),
                        rule("q", side="right", width=PART, mright=PART, height=2, fill="c"))
         self.assertEqual(hidden_widths(falling, (1,)), [])
+        # Its left end comes nearer as the page grows: it goes from 60 - w to w.
+        nearing = page([("b", [], []), ("c", [], [("q", [], [])])], rule("b", at=(10, 0), width=10, height=2, fill="a"), rule("c", show="block", pleft=30),
+                       rule("q", side="right", width=("part", 200), height=2, fill="c"))
+        self.assertEqual(hidden_widths(nearing, (0,)), [((50, 1), True, None, False)])
 
     def test_no_box_and_nothing_painted(self):
         gone = (0, [(None, ("b", [], [], None))], {"show": "none"}, (5, 9))

@@ -123,6 +123,8 @@ class LayoutsTest(unittest.TestCase, Asserts):
         self.assertEqual(places(page([("b", [], [])], rule("page", show="row"), rule("b", width=5)), 50, (0,)), (0, 0, 5, 0))
         # A most below the least counts as the least.
         self.assertEqual(places(page([("b", [], [])], rule("page", show="row"), rule("b", width=5, least=9, most=3)), 50, (0,))[2], 9)
+        grown = page([("b", [], []), ("c", [], [])], rule("page", show="row"), rule("b", width=5, least=9, most=3, grow=1), rule("c", width=5, grow=1))
+        self.assertEqual(places(grown, 50, (0,), (1,)), [(0, 0, 9, 0), (9, 0, 41, 0)])
         # An auto base takes the width, this taken as auto the wish, not held.
         auto = page([("b", [], ["aa b"])], rule("page", show="row"), rule("b", shrink=0, most=99))
         self.assertEqual(places(auto, 1, (0,))[2], 4)

@@ -111,7 +111,7 @@ class SheetTextsTest(unittest.TestCase, Asserts):
             self.assert_keeps(BadValue, thing, write_value, thing)
         for text in ["", " ", "inks", "A", "05", "-0", "-05", "+5", "5 ", "p", "5pp", "-5p", "05p", "0x", "00x", "5y", "(5,6", "5,6)", "(5,6,7)", "(5, 6)", "(,6)",
                      "(5,)", "(-1,5)", "(auto,5)", "(5,6p)", "()", "use()", "use(w)", "use(--)", "use(--w", "use(--w,)", "use(--w,start)", "use(--w,use(--v))",
-                     "use(--w,5,6)", "use(--w, 5)", "Use(--w)", "use(--w)5", "as-parents", "--w", "5\n", "\u0663", "part", "9" * 5000 + "q"]:
+                     "use(--w,5,6)", "use(--w, 5)", "(5,67", "[5,6)", "use(--wx", "use(--w,55", "use(W,5)", "(5)", "Use(--w)", "use(--w)5", "as-parents", "--w", "5\n", "\u0663", "part", "9" * 5000 + "q"]:
             if text == "p":
                 self.assertEqual(read_value(text), "p")
                 continue
