@@ -41,10 +41,7 @@ class Page:
         self._past = Past(Stage(Design(tree, sheet), told_width(width)), (), (), None)
 
     def __eq__(self, other):
-        if not isinstance(other, Page):
-            return False
-        one, another = self._past.stage, other._past.stage
-        return one.design == another.design and one.width == another.width
+        return isinstance(other, Page) and self._now() == other._now()
 
     def tree_now(self):
         return self._past.stage.design.own_tree()
@@ -146,6 +143,10 @@ class Page:
         worths = all_worths(self.sheet_now(), tree, self.width_now())
         others = all_worths(self.sheet_now(), other, self.width_now())
         return [(at, word) for at in worths for word in PROPERTIES if worths[at][word] != others[at][word]]
+
+    def _now(self):
+        """What is kept now, without what lies back and ahead."""
+        return (self._past.stage.design, self._past.stage.width)
 
     def _set_tree(self, name, tree, put, taken):
         self._do(name, Stage(Design(tree, self.sheet_now()), self.width_now()), put, taken)
