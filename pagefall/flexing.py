@@ -113,6 +113,7 @@ class Flexing:
         return states
 
     def told_sizes(self, number):
+        """The sizes, if the level is not above the next one behind one with a number."""
         states = self.states_behind(number)
         rate = sum([abs(bar.rate) for bar, state in zip(self.bars, states) if state == FREE])
         still = []

@@ -27,7 +27,7 @@ class Veil:
     def is_closed(self, watch):
         """Whether the shape holds no point, or all that it holds is held by the others."""
         left, _, right, _ = self.sides
-        # Two shapes of one height and no width hold nothing.
+        # Without a width it holds no point; without a height it has no slab.
         return watch.is_upto(right, left) or all_closed(left, right, self.slabs(), watch)
 
 
@@ -39,6 +39,7 @@ def sides_of(shape):
 
 
 def all_closed(left, right, slabs, watch):
+    """Whether over each slab all from left to right is held by runs."""
     for runs in slabs:
         if not is_chained(left, right, runs, watch):
             return False

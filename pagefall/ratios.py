@@ -5,7 +5,6 @@ from math import gcd
 from pagefall.kinds import is_integer, is_list
 
 ZERO = (0, 1)
-ONE = (1, 1)
 
 
 def is_fraction(thing):

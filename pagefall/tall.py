@@ -23,7 +23,7 @@ def lowest_height(design):
 
 
 def taller_though_wider(design):
-    """The numbers of the first piece that is higher than one ahead of it, and of the first such one, or None."""
+    """The pair (i, j) of the first piece j that is higher than some one ahead of it, i the first of these, or None."""
     heights = heights_of(page_pieces(design))
     for later in range(len(heights)):
         lower = [at for at in range(later) if heights[at] < heights[later]]

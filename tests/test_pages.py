@@ -10,7 +10,7 @@ from pagefall.reaches import reach_of
 from pagefall.sheets import Sheet
 from pagefall.trees import Tree, behind_put, behind_take
 from pagefall.worths import all_worths
-from plainpage import NAMES, WORTHS, PlainPage, some_design, some_sheet
+from plainpage import WORTHS, PlainPage, some_design, some_sheet
 from test_layouts import NO_WIDTHS, page, rule
 
 NOTHING = {"gone": [], "moved": [], "new": [], "sized": []}

@@ -12,7 +12,6 @@ from pagefall.lines import all_rooms
 from pagefall.refusals import BadAbout
 from pagefall.rows import Row
 from pagefall.sheets import Sheet
-from pagefall.trees import Tree
 from pagefall.wide import page_pieces, page_turns, pieces_about
 from plainpage import WORTHS, PlainPage, some_design, told
 from test_layouts import NO_WIDTHS, PART, page, rule
