@@ -269,6 +269,23 @@ class WideTest(unittest.TestCase, Asserts):
             self.assertEqual(boxes_at([piece for piece in pieces if holds(piece[0], width)][0], width), layout_at(design, width))
 
 
+    def test_two_hundred_pieces(self):
+        dice = Dice(76)
+        classes = ["abcdefghijkl"[at] for at in range(12)]
+        children, rules = [], [rule("f", side="left")]
+        for at, klass in enumerate(classes):
+            children.append(("f", [klass], []))
+            children.extend("a" * (1 + dice.throw(9)) + " " for _ in range(3))
+            told_so = {"width": ("part", 5 + 7 * at % 60) if at % 2 else 3 + at, "side": "left" if at % 3 else "right", "height": 1 + at % 7, "least": at % 4}
+            rules.append((0, [(None, (None, [klass], [], None))], told_so, None))
+        design = page(children, *rules)
+        pieces = page_pieces(design)
+        self.assertTrue(200 < len(pieces) <= 300)
+        self.check_neighbours(pieces)
+        for width in turning_widths([stretch for stretch, _ in pieces])[::9]:
+            self.assertEqual(boxes_at([piece for piece in pieces if holds(piece[0], width)][0], width), PlainPage(design, width).layout())
+
+
 def is_askable(there, path, name):
     if not there.plain.has_box(path) or not isinstance(there.worth(path, name), int) or there.plain.way(path) == "cell":
         return False
